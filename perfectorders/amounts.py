@@ -1,0 +1,88 @@
+"""Integers, things, sets of things and needs: how they are checked and added up."""
+
+from perfectorders.errors import BadNeeds, BadNumber, BadPart, BadThing
+
+
+def is_int(value):
+    """Tell whether the value is an integer and neither True nor False."""
+    return isinstance(value, int) and not isinstance(value, bool)
+
+
+def is_pair(value):
+    """Tell whether the value is a list or tuple of two entries."""
+    return isinstance(value, (list, tuple)) and len(value) == 2
+
+
+def is_thing(many, value):
+    """Tell whether the value is one of the things 0 to many - 1."""
+    return is_int(value) and 0 <= value < many
+
+
+def check_number(value, name, least=0):
+    """Return the value, an integer of at least `least`."""
+    if not is_int(value) or value < least:
+        raise BadNumber(name)
+    return value
+
+
+def check_place(many, place):
+    """Return the place, one of 0 to many - 1."""
+    if not is_thing(many, place):
+        raise BadNumber("place")
+    return place
+
+
+def check_thing(many, thing):
+    """Return the thing, one of 0 to many - 1."""
+    if not is_thing(many, thing):
+        raise BadThing(thing)
+    return thing
+
+
+def check_two_things(many, x, y):
+    """Check that x and y are two unlike things."""
+    check_thing(many, x)
+    check_thing(many, y)
+    if x == y:
+        raise BadThing(y)
+
+
+def check_things(many, things):
+    """Return the set of things as an ascending tuple."""
+    seen = set()
+    for place, thing in enumerate(things):
+        if not is_thing(many, thing) or thing in seen:
+            raise BadPart(place)
+        seen.add(thing)
+    return tuple(sorted(seen))
+
+
+def check_part(many, part):
+    """Return the things of the part as an ascending tuple; None stands for all things."""
+    if part is None:
+        return tuple(range(many))
+    return check_things(many, part)
+
+
+def check_needs(many, needs):
+    """Return the needs as a tuple; None stands for 1 everywhere."""
+    if needs is None:
+        return (1,) * many
+    for place, need in zip(range(many), needs):
+        if not is_int(need) or need < 0:
+            raise BadNeeds(place)
+    if len(needs) != many:
+        raise BadNeeds(min(many, len(needs)))
+    return tuple(needs)
+
+
+def needs_on(many, things, need=1):
+    """Return the needs that are `need` on the things and 0 elsewhere."""
+    return tuple([need if thing in things else 0 for thing in range(many)])
+
+
+def weight(needs, things):
+    """Return the sum of the needs of the things; needs of None are 1 everywhere."""
+    if needs is None:
+        return len(things)
+    return sum([needs[thing] for thing in things])

@@ -1,0 +1,58 @@
+"""Runs of rooms: tuples (first, last) that stand for all rooms from first to last.
+
+Rooms are never counted one by one, so that the work does not grow with their number.
+"""
+
+
+def merged(runs):
+    """Return the runs of the same rooms, none of which meets another one or begins just behind it."""
+    whole = []
+    for first, last in sorted(runs):
+        if whole and first <= whole[-1][1] + 1:
+            whole[-1] = (whole[-1][0], max(whole[-1][1], last))
+        else:
+            whole.append((first, last))
+    return tuple(whole)
+
+
+def least_rooms(taken, many):
+    """Return as ascending runs the least `many` rooms that lie in none of the merged runs `taken`."""
+    found = []
+    room = 1
+    left = many
+    for first, last in taken:
+        count = min(left, first - room)
+        if count > 0:
+            found.append((room, room + count - 1))
+            left = left - count
+        room = last + 1
+    if left > 0:
+        found.append((room, room + left - 1))
+    return tuple(found)
+
+
+def rooms_below(runs, room):
+    """Return how many rooms of the runs lie below the room."""
+    return sum([max(0, min(last + 1, room) - first) for first, last in runs])
+
+
+def holds_room(runs, room):
+    """Tell whether the room lies in one of the runs."""
+    return any([first <= room <= last for first, last in runs])
+
+
+def lot_of_runs(runs, room):
+    """Return the things that hold the room, an ascending tuple; `runs` has the runs of each thing."""
+    return tuple([thing for thing in range(len(runs)) if holds_room(runs[thing], room)])
+
+
+def spans_of(runs):
+    """Return the spans of a book; `runs` has the runs of each thing."""
+    edges = set()
+    for held in runs:
+        for first, last in held:
+            edges.add(first)
+            edges.add(last + 1)
+    # Between two edges the room lot stays the same, and at each edge it changes.
+    rooms = sorted(edges)
+    return tuple([(after - room, lot_of_runs(runs, room)) for room, after in zip(rooms, rooms[1:])])
