@@ -35,11 +35,11 @@ def common_thing(order, knot, lot):
     check_knot(web, things)
     check_lot(web, others)
     for thing in things:
-        if not any([other in others for other in order.ahead_of(thing)]):
+        if not any([x in others for x in order.ahead_of(thing)]):
             raise NoneSuch("ahead")
     for other in others:
-        clashing = all([web.clash(thing, other) for thing in things])
-        if clashing and any([order.ahead(other, thing) for thing in things]):
+        clashing = all([web.clash(x, other) for x in things])
+        if clashing and any([order.ahead(other, x) for x in things]):
             return other
     return None
 
@@ -51,7 +51,7 @@ def left_out(order, lots, part=None):
     things = check_part(many, part)
     for lot in gone:
         check_lot(order.web, lot)
-    rest = [thing for thing in things if not any([thing in lot for lot in gone])]
+    rest = [thing for thing in things if all([thing not in other for other in gone])]
     return room_count(order, needs_on(many, things)) - room_count(order, needs_on(many, rest))
 
 

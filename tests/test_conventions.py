@@ -1,0 +1,214 @@
+"""[0.3] to [0.8] for all calls together."""
+
+import copy
+import subprocess
+import sys
+import unittest
+from pathlib import Path
+
+from perfectorders.amounts import check_needs, check_things, weight
+from perfectorders.books import Book, alike_in_parts, book_by_rooms, first_lot, room_count, squeezed
+from perfectorders.bounds import heaviest_way, most_ahead
+from perfectorders.errors import BadNumber, BadPart, OrdersError
+from perfectorders.joins import beside, joined, made_one, number_of, product, put_in, thing_of
+from perfectorders.knots import (full_knots, full_lots, heaviest, heaviest_knots, heaviest_lots, is_knot, is_lot,
+                                 knots_of, lots_of)
+from perfectorders.lots import common_thing, first_rooms_out, left_out, missed_knots, missed_part
+from perfectorders.makers import doubled, mixed_rows
+from perfectorders.orders import Order, joined_order, order_by, product_order, put_in_order, same_lead
+from perfectorders.products import joint_count, joint_room
+from perfectorders.quads import contrary_row, ends_of, is_row, middles_of, rows_of_four, threes
+from perfectorders.right import bad_rows, check_right, counter_needs, counter_pair, counter_part, first_bad, is_right
+from perfectorders.settled import (booking_with, check_booking, order_of_booking, room_ends, rooms_row,
+                                   settled_bookings, unsettled)
+from perfectorders.texts import web_from, web_text
+from perfectorders.webs import Web
+from tests.by_hand import Case
+
+ROOT = Path(__file__).resolve().parent.parent
+LINE = Web.line(4)
+WEB = Web(5, [(0, 1), (2, 0), (1, 2), (2, 3), (4, 3)])
+ORDER = Order(LINE, (0, 3, 1, 2))
+MOST = 10 ** 12
+
+# Calls with lists wherever a list may be passed; generators are read to the end.
+CALLS = {
+    "check_things": (check_things, 5, [3, 1]), "check_needs": (check_needs, 2, [3, 1]), "weight": (weight, [1, 2], [1]),
+    "Web": (Web, 3, [[0, 1], [2, 1]]), "part": (WEB.part, [3, 1, 2]), "with_thing": (WEB.with_thing, [4, 1]),
+    "stretches": (Web.stretches, [[0, 2], [2, 3], [4, 4]]), "falling": (Web.falling, [3, 1, 2]),
+    "ruled": (Web.ruled, 3, [[0, 1], [1, 2]]), "near": (WEB.near, 2), "without": (WEB.without, 2),
+    "settled": (WEB.settled, 0, 4, True), "ring": (Web.ring, 5), "web_text": (web_text, WEB),
+    "web_from": (web_from, "web 3: 0-1"), "rows_of_four": (rows_of_four, WEB), "is_row": (is_row, LINE, 0, 1, 2, 3),
+    "threes": (threes, WEB), "contrary_row": (contrary_row, [0, 1, 2, 3]), "ends_of": (ends_of, LINE, 0, [3, 2, 1, 0]),
+    "middles_of": (middles_of, LINE, 1, [3, 2, 1, 0]), "is_knot": (is_knot, WEB, [2, 1]), "is_lot": (is_lot, WEB, [4, 0]),
+    "knots_of": (lambda part: tuple(knots_of(WEB, part)), [3, 2, 0]),
+    "lots_of": (lambda part: tuple(lots_of(WEB, part)), [3, 2, 0]),
+    "full_knots": (full_knots, WEB, [3, 2, 0]), "full_lots": (full_lots, WEB, [3, 2, 0]),
+    "heaviest": (heaviest, WEB, [1, 2, 3, 4, 5], [2, 1]), "heaviest_knots": (heaviest_knots, WEB, [1, 2, 3, 4, 5]),
+    "heaviest_lots": (heaviest_lots, WEB, [1, 2, 3, 4, 5]), "beside": (beside, LINE, WEB), "joined": (joined, LINE, WEB),
+    "put_in": (put_in, Web.line(2), [LINE, WEB]), "thing_of": (thing_of, [LINE, WEB], 6),
+    "number_of": (number_of, [LINE, WEB], 1, 2), "product": (product, Web.line(2), LINE), "made_one": (made_one, WEB, 1, 4),
+    "doubled": (doubled, 3), "mixed_rows": (lambda rows: tuple(mixed_rows(rows)), [[1, 0], [], [2]]),
+    "Order": (Order, LINE, [0, 3, 1, 2]), "ahead_of": (ORDER.ahead_of, 1), "lead": (ORDER.lead,),
+    "order.part": (ORDER.part, [3, 1]), "on": (ORDER.on, Web(4)), "moved": (ORDER.moved, 0, 2),
+    "plain": (Order.plain, WEB), "order_by": (order_by, LINE, [3, 1, 1, 0]), "same_lead": (same_lead, ORDER, ORDER),
+    "joined_order": (joined_order, [ORDER, ORDER], [0, 1, 1, 0, 0, 1, 1, 0], True),
+    "put_in_order": (put_in_order, Order.plain(Web.line(2)), [ORDER, ORDER]),
+    "product_order": (product_order, Order.plain(Web.line(2)), ORDER), "Book": (Book, ORDER, [1, 2, 3, 4]),
+    "holds": (Book(ORDER).holds, [1, 0], 2), "holds_all": (Book(ORDER).holds_all, [2, 1, 0]),
+    "rooms_of": (Book(ORDER).rooms_of, 2), "last_of": (Book(ORDER).last_of, 2), "lot_at": (Book(ORDER).lot_at, 1),
+    "book_by_rooms": (book_by_rooms, ORDER, [1, 2, 3, 4]), "room_count": (room_count, ORDER, [1, 2, 3, 4]),
+    "first_lot": (first_lot, ORDER, [3, 2]), "alike_in_parts": (alike_in_parts, ORDER, ~ORDER),
+    "squeezed": (squeezed, [[2, [0, 2]], [1, [2]]], [2]), "check_booking": (check_booking, LINE, [1, 2, 1, 2]),
+    "unsettled": (unsettled, LINE, [1, 3, 1, 2]), "order_of_booking": (order_of_booking, LINE, [1, 2, 1, 2]),
+    "rooms_row": (rooms_row, ORDER), "room_ends": (room_ends, LINE), "booking_with": (booking_with, LINE, 3),
+    "settled_bookings": (lambda: tuple(settled_bookings(LINE)),), "heaviest_way": (heaviest_way, ORDER, [1, 2, 3, 4]),
+    "most_ahead": (most_ahead, ORDER, [1, 2, 3, 4]), "joint_room": (joint_room, 3, 2), "joint_count": (joint_count, 3, 2),
+    "bad_rows": (bad_rows, ORDER), "first_bad": (first_bad, ORDER), "is_right": (is_right, ORDER),
+    "check_right": (check_right, Order.plain(LINE)), "counter_part": (counter_part, ORDER),
+    "counter_needs": (counter_needs, ORDER), "counter_pair": (counter_pair, ORDER),
+    "missed_knots": (missed_knots, ORDER, [3, 2, 1, 0]), "missed_part": (missed_part, ORDER),
+    "common_thing": (common_thing, ORDER, [1], [0]), "left_out": (left_out, ORDER, [[2, 0], [3]], [2, 1, 0]),
+    "first_rooms_out": (first_rooms_out, Book(ORDER), 1),
+}
+
+
+def spoil(value):
+    """Change all lists within the value."""
+    if isinstance(value, list):
+        for part in value:
+            spoil(part)
+        value.append("spoilt")
+        value.insert(0, "spoilt")
+
+
+def as_tuples(value):
+    if isinstance(value, (list, tuple)):
+        return tuple(as_tuples(part) for part in value)
+    return value
+
+
+class Values(Case):
+    def plain(self, value):
+        """An integer, a string, True, False, None, an object of the package, or a tuple of these."""
+        if isinstance(value, tuple):
+            self.assertIs(type(value), tuple)
+            for part in value:
+                self.plain(part)
+        elif isinstance(value, (Web, Order, Book)):
+            for name in {Web: ("many", "clashes", "many_clashes"), Order: ("web", "row", "LETTERS"),
+                         Book: ("order", "needs", "spans", "room_count")}[type(value)]:
+                self.plain(getattr(value, name))
+        else:
+            self.assertIn(type(value), (int, str, bool, type(None)))
+
+    def test_no_call_returns_a_list_or_a_dict(self):
+        for name, (call, *rest) in CALLS.items():
+            with self.subTest(name):
+                self.plain(call(*rest))
+
+    def test_no_call_changes_its_arguments(self):
+        for name, (call, *rest) in CALLS.items():
+            with self.subTest(name):
+                lists = [copy.deepcopy(value) if isinstance(value, list) else value for value in rest]
+                call(*rest)
+                self.assertEqual(rest, lists)
+
+    def test_no_call_keeps_a_list(self):
+        for name, (call, *rest) in CALLS.items():
+            with self.subTest(name):
+                lists = [copy.deepcopy(value) if isinstance(value, list) else value for value in rest]
+                got = call(*lists)
+                for value in lists:
+                    spoil(value)
+                expected = call(*rest)
+                self.assertTrue(got == expected)
+                self.plain(got)
+
+    def test_lists_and_tuples_do_alike(self):
+        for name, (call, *rest) in CALLS.items():
+            with self.subTest(name):
+                self.assertTrue(call(*rest) == call(*as_tuples(rest)))
+
+    def test_equal_arguments_give_equal_results(self):
+        for name, (call, *rest) in CALLS.items():
+            with self.subTest(name):
+                self.assertTrue(call(*rest) == call(*rest))
+
+    def test_yielded_values(self):
+        for results in (knots_of(WEB), lots_of(WEB), mixed_rows([[0], [1]]), settled_bookings(LINE)):
+            for result in results:
+                self.plain(result)
+
+
+class Generators(Case):
+    def test_arguments_are_checked_when_the_first_result_is_asked_for(self):
+        for told, error in ((knots_of(WEB, [7]), BadPart(0)), (lots_of(WEB, [1, 1]), BadPart(1)),
+                            (mixed_rows([], limit=0), BadNumber("limit")),
+                            (settled_bookings(WEB, limit=True), BadNumber("limit"))):
+            self.assertIs(iter(told), told)
+            self.raises(error, next, told)
+
+
+class Errors(Case):
+    def test_a_call_that_raises_changes_nothing(self):
+        web, order = Web.line(3), Order.plain(Web.line(3))
+        book = Book(order, (1, 2, 3))
+        calls = ((web.part, [0, 0]), (web.with_thing, [9]), (web.settled, 0, 0, True), (order.moved, 0, 9),
+                 (order.on, Web(9)), (book.holds, [0], 0), (book.lot_at, 0))
+        for call, *rest in calls:
+            with self.assertRaises(OrdersError):
+                call(*rest)
+        self.same((web, order.row, book.spans), (Web(3, [(0, 1), (1, 2)]), (0, 1, 2), Book(order, (1, 2, 3)).spans))
+
+
+class Sizes(Case):
+    """The work of no call grows with the size of the numbers: these would not end otherwise."""
+
+    def test_great_needs(self):
+        needs = (MOST, MOST - 1, MOST, 7)
+        book = Book(ORDER, needs)
+        self.same(sum(count for count, _ in book), book.room_count)
+        self.same(book_by_rooms(ORDER, needs), book.spans)
+        self.same(book.lot_at(10 ** 14), ())
+        self.same(book.holds((0, 1), 10 ** 14), False)
+        self.same(first_rooms_out(book, 10 ** 14), (0, 0, 0, 0))
+        self.same(heaviest(LINE, needs), 2 * MOST - 1)
+        self.same(heaviest_way(ORDER, needs), (3 * MOST - 1, (0, 1, 2)))
+
+    def test_great_rooms(self):
+        self.same(unsettled(LINE, (10 ** 14, 10 ** 14 - 1, 10 ** 14, 1)), (0, 1))
+        self.same(check_booking(LINE, (10 ** 14, 1, 10 ** 14, 1)), (10 ** 14, 1, 10 ** 14, 1))
+        self.same(joint_count(10 ** 14, 10 ** 14), 2 ** 47)
+        self.same(joint_room(10 ** 14, 1), 10 ** 14)
+
+    def test_sixteen_things(self):
+        web = Web(16, [(x, y) for x in range(16) for y in range(x + 1, 16) if (x * y) % 3 != 1])
+        order = Order(web, tuple(range(0, 16, 2)) + tuple(range(1, 16, 2)))
+        needs = tuple(MOST - thing for thing in range(16))
+        self.same(book_by_rooms(order, needs), Book(order, needs).spans)
+        self.assertGreaterEqual(room_count(order, needs), heaviest(web, needs))
+        self.same(bad_rows(order), tuple(row for row in rows_of_four(web)
+                                         if order.ahead(row[0], row[1]) and order.ahead(row[3], row[2])))
+        self.same(full_knots(Web.full(16)), (tuple(range(16)),))
+        self.same(len(full_knots(joined(*[Web.bare(2)] * 8))), 256)
+
+
+class Imports(Case):
+    def test_each_module_can_be_imported_first(self):
+        modules = sorted(path.stem for path in (ROOT / "perfectorders").glob("*.py"))
+        self.assertIn("__init__", modules)
+        code = "import importlib, sys; importlib.import_module(sys.argv[1])"
+        for module in modules:
+            name = "perfectorders" if module == "__init__" else "perfectorders." + module
+            done = subprocess.run([sys.executable, "-c", code, name], cwd=ROOT, capture_output=True, text=True)
+            self.assertEqual((done.returncode, done.stdout, done.stderr), (0, "", ""), name)
+
+    def test_init_defines_nothing(self):
+        code = ("import perfectorders; print([name for name in vars(perfectorders) if not name.startswith('__')])")
+        done = subprocess.run([sys.executable, "-c", code], cwd=ROOT, capture_output=True, text=True)
+        self.assertEqual(done.stdout.strip(), "[]")
+
+
+if __name__ == "__main__":
+    unittest.main()

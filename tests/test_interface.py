@@ -1,0 +1,84 @@
+"""The interface: names, arguments, defaults, and the file and class in which each of them is defined."""
+
+import importlib
+import inspect
+import unittest
+
+from tests.by_hand import Case
+
+FUNCTIONS = {
+    "amounts": ["is_int(value)", "check_number(value, name, least=0)", "check_thing(many, thing)",
+                "check_things(many, things)", "check_needs(many, needs)", "weight(needs, things)"],
+    "texts": ["web_text(web)", "web_from(line)"],
+    "quads": ["rows_of_four(web)", "is_row(web, a, b, c, d)", "threes(web)", "contrary_row(row)",
+              "ends_of(web, thing, part=None)", "middles_of(web, thing, part=None)"],
+    "knots": ["is_knot(web, things)", "is_lot(web, things)", "knots_of(web, part=None)", "lots_of(web, part=None)",
+              "full_knots(web, part=None)", "full_lots(web, part=None)", "heaviest(web, needs=None, holding=())",
+              "heaviest_knots(web, needs=None)", "heaviest_lots(web, needs=None)"],
+    "joins": ["beside(first, *rest)", "joined(first, *rest)", "put_in(outer, webs)", "thing_of(webs, thing)",
+              "number_of(webs, v, h)", "product(web, other)", "made_one(web, x, y)"],
+    "makers": ["doubled(levels)", "mixed_rows(rows, *, limit=500)"],
+    "orders": ["order_by(web, numbers)", "same_lead(order, other)", "joined_order(orders, mixing, clashing=False)",
+               "put_in_order(outer, orders)", "product_order(order, other)"],
+    "books": ["book_by_rooms(order, needs=None)", "room_count(order, needs=None)", "first_lot(order, part=None)",
+              "alike_in_parts(order, other)", "squeezed(spans, things)"],
+    "settled": ["check_booking(web, rooms)", "unsettled(web, rooms)", "order_of_booking(web, rooms)",
+                "rooms_row(order)", "room_ends(web)", "booking_with(web, many)", "settled_bookings(web, *, limit=500)"],
+    "bounds": ["heaviest_way(order, needs=None)", "most_ahead(order, needs=None)"],
+    "products": ["joint_room(room, other)", "joint_count(many, other)"],
+    "right": ["bad_rows(order)", "first_bad(order)", "is_right(order)", "check_right(order)", "counter_part(order)",
+              "counter_needs(order)", "counter_pair(order)"],
+    "lots": ["missed_knots(order, part=None)", "missed_part(order)", "common_thing(order, knot, lot)",
+             "left_out(order, lots, part=None)", "first_rooms_out(book, many)"],
+}
+GENERATORS = ("knots_of", "lots_of", "mixed_rows", "settled_bookings")
+CLASSES = {
+    "webs.Web": (["__init__(self, many, clashes=())", "clash(self, x, y)", "near(self, x)", "part(self, things)",
+                  "without(self, x)", "with_thing(self, near)", "settled(self, x, y, clashing)"],
+                 ["ring(many)", "line(many)", "full(many)", "bare(many)", "star(many)", "stretches(rows)",
+                  "falling(numbers)", "ruled(many, pairs)"],
+                 ["many_clashes"],
+                 ["__invert__", "__add__", "__mul__", "__eq__", "__len__", "__contains__", "__getitem__", "__iter__"]),
+    "orders.Order": (["__init__(self, web, row)", "ahead(self, x, y)", "ahead_of(self, x)", "lead(self)",
+                      "part(self, things)", "on(self, web)", "moved(self, x, place)"],
+                     ["plain(web)"], [],
+                     ["__invert__", "__eq__", "__len__", "__getitem__", "__contains__", "__iter__"]),
+    "books.Book": (["__init__(self, order, needs=None)", "rooms_of(self, x)", "last_of(self, x)",
+                    "lot_at(self, room)", "holds(self, things, room)", "holds_all(self, things)"],
+                   [], ["room_count"], ["__getitem__", "__len__", "__iter__", "__eq__"]),
+}
+
+
+class Interface(Case):
+    def test_functions(self):
+        for module_name, told in FUNCTIONS.items():
+            module = importlib.import_module("perfectorders." + module_name)
+            for text in told:
+                name = text.split("(")[0]
+                function = vars(module)[name]
+                self.assertTrue(inspect.isfunction(function), name)
+                self.assertEqual(function.__module__, module.__name__, name)
+                self.assertEqual(name + str(inspect.signature(function)), text)
+                self.assertEqual(inspect.isgeneratorfunction(function), name in GENERATORS, name)
+
+    def test_classes(self):
+        for path, (methods, class_methods, properties, signs) in CLASSES.items():
+            module_name, class_name = path.split(".")
+            module = importlib.import_module("perfectorders." + module_name)
+            made = vars(module)[class_name]
+            self.assertEqual(made.__module__, module.__name__)
+            for text in methods:
+                method = vars(made)[text.split("(")[0]]
+                self.assertEqual(method.__name__ + str(inspect.signature(method)), text)
+            for text in class_methods:
+                name = text.split("(")[0]
+                self.assertIsInstance(vars(made)[name], classmethod)
+                self.assertEqual(name + str(inspect.signature(getattr(made, name))), text)
+            for name in properties:
+                self.assertIsInstance(vars(made)[name], property)
+            for name in signs:
+                self.assertIn(name, vars(made))
+
+
+if __name__ == "__main__":
+    unittest.main()

@@ -1,0 +1,150 @@
+"""The rules of LANGUAGE.md that a look at the package's source can tell."""
+
+import ast
+import builtins
+import unittest
+from pathlib import Path
+
+ROOT = Path(__file__).resolve().parent.parent
+PACKAGE = ROOT / "perfectorders"
+FILES = sorted(PACKAGE.rglob("*.py"))
+TREES = {path: ast.parse(path.read_text()) for path in FILES}
+
+BUILTINS = set("len range enumerate zip min max sum abs sorted reversed int str bool list tuple dict set isinstance "
+               "repr any all divmod iter Exception NotImplemented property classmethod".split())
+METHODS = set("append clear copy count endswith extend find get index insert isalnum isalpha isdigit islower isspace "
+              "isupper items join keys ljust lower lstrip partition pop remove replace reverse rfind rjust rpartition "
+              "rsplit rstrip setdefault split splitlines startswith strip update upper values zfill bit_length "
+              "add discard".split())
+STATEMENTS = (ast.Assign, ast.If, ast.While, ast.For, ast.Return, ast.Break, ast.Continue, ast.Pass, ast.Raise,
+              ast.Try, ast.Expr, ast.FunctionDef, ast.ClassDef, ast.ImportFrom)
+SIGNS = set("__init__ __eq__ __len__ __iter__ __invert__ __add__ __mul__ __contains__ __getitem__".split())
+BARRED = set("type typing enum Enum Flag Generic Protocol ABC namedtuple dataclass overload register mro elements open "
+             "input law id dir vars help exit quit sys os eval exec compile globals locals".split())
+
+
+def nodes(kind):
+    for path, tree in TREES.items():
+        for node in ast.walk(tree):
+            if isinstance(node, kind):
+                yield path.name, node
+
+
+class Language(unittest.TestCase):
+    def test_files(self):
+        others = [path for path in PACKAGE.rglob("*") if "__pycache__" not in path.parts and path not in FILES]
+        self.assertEqual(others, [])
+        self.assertLessEqual(len(FILES), 100)
+        self.assertEqual((PACKAGE / "__init__.py").read_text(), "")
+
+    def test_characters_and_sizes(self):
+        for path in FILES:
+            text = path.read_text()
+            self.assertLessEqual({sign for sign in text if not " " <= sign <= "~"}, {"\n"}, path.name)
+            lines = text.split("\n")
+            self.assertLessEqual(len(lines), 400, path.name)
+            self.assertEqual([line for line in lines if len(line) > 120 or line != line.rstrip()], [], path.name)
+
+    def test_functions_are_small(self):
+        for name, node in nodes(ast.FunctionDef):
+            self.assertLessEqual(node.end_lineno - node.lineno + 1, 40, (name, node.name))
+
+    def test_statements(self):
+        for name, node in nodes(ast.stmt):
+            self.assertIsInstance(node, STATEMENTS, (name, node.lineno))
+
+    def test_module_level(self):
+        for path, tree in TREES.items():
+            for node in tree.body:
+                docstring = isinstance(node, ast.Expr) and isinstance(node.value, ast.Constant)
+                self.assertTrue(docstring or isinstance(node, (ast.ImportFrom, ast.FunctionDef, ast.ClassDef)), path)
+
+    def test_imports_name_the_defining_file_and_have_no_ring(self):
+        defined = {path.stem: {node.name for node in tree.body if isinstance(node, (ast.FunctionDef, ast.ClassDef))}
+                   for path, tree in TREES.items()}
+        imported = {path.stem: set() for path in FILES}
+        for name, node in nodes(ast.ImportFrom):
+            package, module = node.module.split(".")
+            self.assertEqual((package, node.level), ("perfectorders", 0), name)
+            imported[name.removesuffix(".py")].add(module)
+            for alias in node.names:
+                self.assertIsNone(alias.asname)
+                self.assertIn(alias.name, defined[module], (name, alias.name))
+        while imported:
+            free = [module for module, others in imported.items() if not others & set(imported)]
+            self.assertTrue(free, imported)
+            for module in free:
+                del imported[module]
+
+    def test_imported_names_are_used_and_mean_nothing_else(self):
+        for path, tree in TREES.items():
+            names = {alias.name for node in ast.walk(tree) if isinstance(node, ast.ImportFrom) for alias in node.names}
+            classes = {node.name for node in ast.walk(tree) if isinstance(node, ast.ClassDef)}
+            read = {node.id for node in ast.walk(tree) if isinstance(node, ast.Name) and isinstance(node.ctx, ast.Load)}
+            set_here = {node.id for node in ast.walk(tree)
+                        if isinstance(node, ast.Name) and not isinstance(node.ctx, ast.Load)}
+            set_here |= {node.arg for node in ast.walk(tree) if isinstance(node, ast.arg)}
+            self.assertEqual(names - read, set(), path.name)
+            self.assertEqual(set_here & (names | classes), set(), path.name)
+            self.assertEqual(set_here & (set(dir(builtins)) | BARRED), set(), path.name)
+
+    def test_builtins_and_methods(self):
+        own = {node.name for _, node in nodes((ast.FunctionDef, ast.ClassDef))}
+        for name, node in nodes(ast.Name):
+            if isinstance(node.ctx, ast.Load) and node.id in dir(builtins):
+                self.assertIn(node.id, BUILTINS, (name, node.lineno))
+        for name, node in nodes(ast.Call):
+            if isinstance(node.func, ast.Attribute):
+                self.assertIn(node.func.attr, METHODS | own, (name, node.lineno))
+
+    def test_expressions(self):
+        barred = (ast.GeneratorExp, ast.Lambda, ast.Div, ast.MatMult, ast.NamedExpr, ast.Await, ast.Global, ast.Delete)
+        self.assertEqual([(name, node) for name, node in nodes(barred)], [])
+        for name, node in nodes(ast.Constant):
+            self.assertNotIsInstance(node.value, (float, complex, bytes), name)
+            if isinstance(node.value, str):
+                self.assertNotIn("%", node.value, name)
+        for name, node in nodes(ast.Compare):
+            for sign, other in zip(node.ops, node.comparators):
+                if isinstance(sign, (ast.Is, ast.IsNot)):
+                    self.assertIs(other.value, None, (name, node.lineno))
+
+    def test_generators_and_ranges_are_not_passed_on(self):
+        generators = {node.name for _, node in nodes(ast.FunctionDef)
+                      if any(isinstance(inner, (ast.Yield, ast.YieldFrom)) for inner in ast.walk(node))}
+        at_once = {"list", "tuple", "sorted", "sum", "any", "all", "enumerate", "zip", "max", "min", "len", "reversed"}
+        for path, tree in TREES.items():
+            parents = {child: node for node in ast.walk(tree) for child in ast.iter_child_nodes(node)}
+            for node in ast.walk(tree):
+                if not isinstance(node, ast.Call) or not isinstance(node.func, ast.Name):
+                    continue
+                if node.func.id not in generators | {"range", "zip", "enumerate", "reversed"}:
+                    continue
+                above = parents[node]
+                fits = isinstance(above, (ast.For, ast.comprehension, ast.YieldFrom))
+                fits = fits or (isinstance(above, ast.Call) and isinstance(above.func, ast.Name)
+                                and above.func.id in at_once)
+                self.assertTrue(fits, (path.name, node.lineno))
+
+    def test_decorators_and_classes(self):
+        for name, node in nodes((ast.FunctionDef, ast.ClassDef)):
+            told = [ast.unparse(decorator) for decorator in node.decorator_list]
+            self.assertIn(told, ([], ["property"], ["classmethod"]), (name, node.name))
+            if node.name.startswith("__"):
+                self.assertIn(node.name, SIGNS, name)
+
+    def test_raise_creates_its_error(self):
+        for name, node in nodes(ast.Raise):
+            self.assertIsInstance(node.exc, ast.Call, (name, node.lineno))
+            self.assertIsInstance(node.exc.func, ast.Name, (name, node.lineno))
+
+    def test_sets_are_read_sorted_or_by_in(self):
+        for name, node in nodes(ast.Set):
+            self.fail((name, node.lineno))
+        for name, node in nodes(ast.For):
+            if isinstance(node.iter, ast.Call) and isinstance(node.iter.func, ast.Name):
+                self.assertNotEqual(node.iter.func.id, "set", (name, node.lineno))
+
+
+if __name__ == "__main__":
+    unittest.main()
