@@ -47,14 +47,22 @@ def check_two_things(many, x, y):
         raise BadThing(y)
 
 
-def check_things(many, things):
-    """Return the set of things as an ascending tuple."""
+def first_wrong(many, things):
+    """Return the first place whose entry is no thing or stands at an earlier place, too, or None."""
     seen = set()
     for place, thing in enumerate(things):
         if not is_thing(many, thing) or thing in seen:
-            raise BadPart(place)
+            return place
         seen.add(thing)
-    return tuple(sorted(seen))
+    return None
+
+
+def check_things(many, things):
+    """Return the set of things as an ascending tuple."""
+    place = first_wrong(many, things)
+    if place is not None:
+        raise BadPart(place)
+    return tuple(sorted(things))
 
 
 def check_part(many, part):

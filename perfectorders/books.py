@@ -3,14 +3,14 @@
 from perfectorders.amounts import check_needs, check_number, check_part, check_thing, check_things
 from perfectorders.errors import BadNumber
 from perfectorders.masks import things_in
-from perfectorders.runs import holds_room, least_rooms, merged, spans_of
+from perfectorders.runs import holds_room, least_rooms, spans_of
 
 
 def booked_runs(order, needs):
     """Return for each thing the runs of the rooms that it takes, a tuple."""
     held = [()] * len(order)
     for thing in order.row:
-        taken = merged([run for other in order.ahead_of(thing) for run in held[other]])
+        taken = [run for other in order.ahead_of(thing) for run in held[other]]
         held[thing] = least_rooms(taken, needs[thing])
     return tuple(held)
 

@@ -1,17 +1,15 @@
 """Orders of webs."""
 
-from perfectorders.amounts import check_place, check_thing, check_things, is_int, is_thing
+from perfectorders.amounts import check_place, check_thing, check_things, first_wrong, is_int, is_thing
 from perfectorders.errors import BadNumber, BadOrder
 from perfectorders.joins import beside, first_numbers, joined, product, put_in
 
 
 def checked_row(many, row):
     """Return the row of all things as a tuple."""
-    seen = set()
-    for place, thing in enumerate(row):
-        if not is_thing(many, thing) or thing in seen:
-            raise BadOrder(place)
-        seen.add(thing)
+    place = first_wrong(many, row)
+    if place is not None:
+        raise BadOrder(place)
     if len(row) < many:
         raise BadOrder(len(row))
     return tuple(row)
@@ -117,8 +115,6 @@ def mixed_row(orders, mixing):
             raise BadOrder(place)
         row.append(firsts[number] + orders[number].row[taken[number]])
         taken[number] = taken[number] + 1
-    if len(row) < sum([len(order) for order in orders]):
-        raise BadOrder(len(row))
     return row
 
 
@@ -126,6 +122,7 @@ def joined_order(orders, mixing, clashing=False):
     """Return the mixed Order on the webs of the orders beside one another, or joined."""
     if len(orders) == 0:
         raise BadNumber("orders")
+    # A mixing that is too short is told by Order: the row is then as short as the mixing.
     row = mixed_row(orders, mixing)
     webs = [order.web for order in orders]
     if clashing:

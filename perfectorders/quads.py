@@ -44,30 +44,20 @@ def contrary_row(row):
     return (c, a, d, b)
 
 
-def rows_within(web, things):
-    """Return the rows of four all of whose things are among these, a list."""
-    return [row for row in rows_of_four(web) if all([thing in things for thing in row])]
+def rows_with(web, thing, part, place):
+    """Return the rows of four within the part, read so that the thing stands at the place, an ascending tuple."""
+    check_thing(web.many, thing)
+    things = check_part(web.many, part)
+    rows = [row for row in rows_of_four(web) if all([x in things for x in row])]
+    turned = [row[::-1] for row in rows]
+    return tuple(sorted([row for row in [*rows, *turned] if row[place] == thing]))
 
 
 def ends_of(web, thing, part=None):
     """Return the rows of four within the part that have the thing as an end, read from it."""
-    check_thing(web.many, thing)
-    found = []
-    for row in rows_within(web, check_part(web.many, part)):
-        if row[0] == thing:
-            found.append(row)
-        elif row[3] == thing:
-            found.append(row[::-1])
-    return tuple(sorted(found))
+    return rows_with(web, thing, part, 0)
 
 
 def middles_of(web, thing, part=None):
     """Return the rows of four within the part that have the thing as a middle, read so that it is second."""
-    check_thing(web.many, thing)
-    found = []
-    for row in rows_within(web, check_part(web.many, part)):
-        if row[1] == thing:
-            found.append(row)
-        elif row[2] == thing:
-            found.append(row[::-1])
-    return tuple(sorted(found))
+    return rows_with(web, thing, part, 1)

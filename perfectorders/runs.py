@@ -4,28 +4,17 @@ Rooms are never counted one by one, so that the work does not grow with their nu
 """
 
 
-def merged(runs):
-    """Return the runs of the same rooms, none of which meets another one or begins just behind it."""
-    whole = []
-    for first, last in sorted(runs):
-        if whole and first <= whole[-1][1] + 1:
-            whole[-1] = (whole[-1][0], max(whole[-1][1], last))
-        else:
-            whole.append((first, last))
-    return tuple(whole)
-
-
 def least_rooms(taken, many):
-    """Return as ascending runs the least `many` rooms that lie in none of the merged runs `taken`."""
+    """Return as ascending runs the least `many` rooms that lie in none of the runs `taken`, which may overlap."""
     found = []
     room = 1
     left = many
-    for first, last in taken:
+    for first, last in sorted(taken):
         count = min(left, first - room)
         if count > 0:
             found.append((room, room + count - 1))
             left = left - count
-        room = last + 1
+        room = max(room, last + 1)
     if left > 0:
         found.append((room, room + left - 1))
     return tuple(found)

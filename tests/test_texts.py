@@ -30,7 +30,7 @@ class Lines(Case):
                      "web -1:", "web +3:", "web 3.0:", "web 3: 00-1", "web 3: 0-01", "web 3: 0 -1", "web 3: 0- 1",
                      "web 3: 0-1-2", "web 3: 0", "web 3: -1", "web 3: 0-", "web 3: -", "web 3: 0--1", "web 3: 0-1,",
                      "web 3: 0-1, 1-2", "web 3: 0_1", "web 3: a-b", "web x:", "web 3:: 0-1", "web 3: +0-1",
-                     "web 3: 0-1\n", "web 3:\t0-1", "web 1_0:", "web 3: 0-1 web", "knot 3: 0-1", "web 3: 0-+1"):
+                     "web 3: 0-1\n", "web 33", "web 3;", "web 33 0-1", "web 3;: 0-1", "web 3:4 0-1", "web 3:\t0-1", "web 1_0:", "web 3: 0-1 web", "knot 3: 0-1", "web 3: 0-+1"):
             self.raises(BadText(line), web_from, line)
 
     def test_no_clash_twice(self):

@@ -216,11 +216,12 @@ class Made(Case):
 
 class Stretches(Case):
     def test_common_integers(self):
-        rows = [(first, last) for first in range(-1, 4) for last in range(first, 4)][:15]
-        web = Web.stretches(rows)
-        for x, y in pairs_of(range(len(rows))):
-            common = set(range(rows[x][0], rows[x][1] + 1)) & set(range(rows[y][0], rows[y][1] + 1))
-            self.same(web.clash(x, y), bool(common))
+        ascending = [(first, last) for first in range(-1, 4) for last in range(first, 4)][:15]
+        for rows in (ascending, ascending[::-1], ascending[1::2] + ascending[::2]):
+            web = Web.stretches(rows)
+            for x, y in pairs_of(range(len(rows))):
+                common = set(range(rows[x][0], rows[x][1] + 1)) & set(range(rows[y][0], rows[y][1] + 1))
+                self.same(web.clash(x, y), bool(common))
 
     def test_kinds_of_rows(self):
         self.same(Web.stretches([]), Web(0))
