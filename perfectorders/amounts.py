@@ -89,6 +89,31 @@ def needs_on(many, things, need=1):
     return tuple([need if thing in things else 0 for thing in range(many)])
 
 
+def needs_off(needs, things):
+    """Return the needs that are 0 on the things and as told elsewhere."""
+    return tuple([0 if thing in things else need for thing, need in enumerate(needs)])
+
+
+def lowered(needs, things, count):
+    """Return the needs that are lower by `count` on the things and as told elsewhere."""
+    return tuple([need - count if thing in things else need for thing, need in enumerate(needs)])
+
+
+def needy_things(needs):
+    """Return the needy things, an ascending tuple."""
+    return tuple([thing for thing, need in enumerate(needs) if need > 0])
+
+
+def with_entry(row, place, entry):
+    """Return the tuple with another entry at the place."""
+    return (*row[:place], entry, *row[place + 1:])
+
+
+def meets(things, others):
+    """Tell whether the two sets have a thing in common."""
+    return any([thing in others for thing in things])
+
+
 def weight(needs, things):
     """Return the sum of the needs of the things; needs of None are 1 everywhere."""
     if needs is None:

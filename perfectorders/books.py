@@ -1,6 +1,7 @@
 """Books: which rooms the things of an order take."""
 
 from perfectorders.amounts import check_needs, check_number, check_part, check_thing, check_things
+from perfectorders.amounts import meets, needy_things
 from perfectorders.errors import BadNumber
 from perfectorders.masks import things_in
 from perfectorders.runs import holds_room, least_rooms, spans_of
@@ -58,7 +59,7 @@ class Book:
     def holds_all(self, things):
         """Tell whether the things hold each room from 1 to the room count."""
         held = check_things(len(self.runs), things)
-        return all([any([thing in held for thing in lot]) for _, lot in self.spans])
+        return all([meets(held, lot) for _, lot in self.spans])
 
     def __getitem__(self, at):
         return self.lot_at(at)
@@ -87,7 +88,7 @@ def book_by_rooms(order, needs=None):
     left = list(check_needs(len(order), needs))
     spans = []
     while any([need > 0 for need in left]):
-        lot = taken_first(order, [thing for thing in order.row if left[thing] > 0])
+        lot = taken_first(order, needy_things(left))
         # The lot stays the same until one of its things has all its rooms.
         count = min([left[thing] for thing in lot])
         spans.append((count, lot))

@@ -1,6 +1,6 @@
 """Knots and lots, full ones and heaviest ones."""
 
-from perfectorders.amounts import check_needs, check_part, check_things, weight
+from perfectorders.amounts import check_needs, check_part, check_things, needy_things, weight
 from perfectorders.errors import NotKnot, NotLot
 from perfectorders.masks import full_masks, mask_of, things_in, whole_mask
 
@@ -86,7 +86,7 @@ def heaviest(web, needs=None, holding=()):
 def heaviest_knots(web, needs=None):
     """Return the heaviest ones of the full knots of the part of the needy things, ascending."""
     told = check_needs(web.many, needs)
-    knots = full_knots(web, [thing for thing in range(web.many) if told[thing] > 0])
+    knots = full_knots(web, needy_things(told))
     most = max([weight(told, knot) for knot in knots])
     return tuple([knot for knot in knots if weight(told, knot) == most])
 

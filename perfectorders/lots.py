@@ -1,6 +1,6 @@
 """What first lots meet, lots left out, and first rooms taken off."""
 
-from perfectorders.amounts import check_number, check_part, check_things, needs_on
+from perfectorders.amounts import check_number, check_part, check_things, meets, needs_on
 from perfectorders.books import first_lot, room_count
 from perfectorders.errors import BadPart, NoneSuch
 from perfectorders.knots import check_knot, check_lot, full_knots
@@ -12,8 +12,7 @@ def missed_knots(order, part=None):
     """Return the full knots of the part that hold a thing but none of its first lot, ascending."""
     things = check_part(len(order), part)
     lot = first_lot(order, things)
-    return tuple([knot for knot in full_knots(order.web, things)
-                  if knot and not any([thing in lot for thing in knot])])
+    return tuple([knot for knot in full_knots(order.web, things) if knot and not meets(knot, lot)])
 
 
 def missed_part(order):
@@ -35,7 +34,7 @@ def common_thing(order, knot, lot):
     check_knot(web, things)
     check_lot(web, others)
     for thing in things:
-        if not any([x in others for x in order.ahead_of(thing)]):
+        if not meets(order.ahead_of(thing), others):
             raise NoneSuch("ahead")
     for other in others:
         clashing = all([web.clash(x, other) for x in things])

@@ -1,6 +1,7 @@
 """What the tests share: exact comparisons, and answers worked out straight from the document's words."""
 
 import unittest
+from functools import lru_cache
 from itertools import combinations, permutations, product
 
 from perfectorders.orders import Order
@@ -82,7 +83,12 @@ def is_lot(web, things):
 
 def sets_of(web, part, good):
     """All subsets of the part that are good (knots or lots), ascending."""
-    return sorted(picked for picked in subsets(part) if good(web, picked))
+    return list(kept_sets(web.many, web.clashes, tuple(part), good))
+
+
+@lru_cache(maxsize=None)
+def kept_sets(many, clashes, part, good):
+    return sorted(picked for picked in subsets(part) if good(Web(many, clashes), picked))
 
 
 def full_sets(web, part, good):
@@ -163,6 +169,37 @@ def bad_by_hand(web, row):
     place = {thing: at for at, thing in enumerate(row)}
     return tuple((a, b, c, d) for a, b, c, d in rows_by_hand(web)
                  if place[a] < place[b] and place[d] < place[c])
+
+
+def right_orders_of(web, step=1):
+    """Each step-th of the right orders of the web."""
+    return [order for order in all_orders(web) if not bad_by_hand(web, order.row)][::step]
+
+
+def wrong_orders_of(web, step=1):
+    """Each step-th of the orders of the web that are not right."""
+    return [order for order in all_orders(web) if bad_by_hand(web, order.row)][::step]
+
+
+def heaviest_lot_weight(web, needs):
+    return max(weight_of(needs, lot) for lot in sets_of(web, range(web.many), is_lot))
+
+
+def needy(needs):
+    return tuple(thing for thing, need in enumerate(needs) if need > 0)
+
+
+def added(needs, more):
+    return tuple(one + two for one, two in zip(needs, more))
+
+
+def at(needs, thing, need):
+    """The needs with another need for the thing."""
+    return tuple(need if other == thing else old for other, old in enumerate(needs))
+
+
+def rooms_held(book_by_thing, things):
+    return {room for thing in things for room in book_by_thing[thing]}
 
 
 def ones_on(many, things):

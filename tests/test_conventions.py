@@ -9,27 +9,50 @@ from pathlib import Path
 from perfectorders.amounts import check_needs, check_things, weight
 from perfectorders.books import Book, alike_in_parts, book_by_rooms, first_lot, room_count, squeezed
 from perfectorders.bounds import heaviest_way, most_ahead
+from perfectorders.climbs import climb, holding_knots, is_best, reaches, top_knot
+from perfectorders.covers import cover, cover_lot, cover_size, meeting_knot
 from perfectorders.errors import BadNumber, BadPart, OrdersError
+from perfectorders.foes import FoeBook
 from perfectorders.joins import beside, joined, made_one, number_of, product, put_in, thing_of
 from perfectorders.knots import (full_knots, full_lots, heaviest, heaviest_knots, heaviest_lots, is_knot, is_lot,
                                  knots_of, lots_of)
 from perfectorders.lots import common_thing, first_rooms_out, left_out, missed_knots, missed_part
 from perfectorders.makers import doubled, mixed_rows
+from perfectorders.notes import Notes
 from perfectorders.orders import Order, joined_order, order_by, product_order, put_in_order, same_lead
 from perfectorders.products import joint_count, joint_room
 from perfectorders.quads import contrary_row, ends_of, is_row, middles_of, rows_of_four, threes
+from perfectorders.raises import (contrary_ways, cost, dearer_needs, dearer_now, even_way, free_together, lot_cost,
+                                  need_line, pair_room, raised, raised_heaviest, slack)
 from perfectorders.right import bad_rows, check_right, counter_needs, counter_pair, counter_part, first_bad, is_right
 from perfectorders.settled import (booking_with, check_booking, order_of_booking, room_ends, rooms_row,
                                    settled_bookings, unsettled)
+from perfectorders.strangers import (free_of, held_by, high_things, met_by, outside_bad, with_stranger,
+                                     worst_strangers)
 from perfectorders.texts import web_from, web_text
+from perfectorders.together import bulge, common_best, gap_together, sum_needs
 from perfectorders.webs import Web
+from perfectorders.worlds import (can_be_critical, critical_paper, must_be_critical, room_ends_of, slack_ends,
+                                  slack_worlds, world_of_slack, world_with)
 from tests.by_hand import Case
 
 ROOT = Path(__file__).resolve().parent.parent
 LINE = Web.line(4)
 WEB = Web(5, [(0, 1), (2, 0), (1, 2), (2, 3), (4, 3)])
 ORDER = Order(LINE, (0, 3, 1, 2))
+RIGHT = Order.plain(LINE)
+HOUSE = Web(5, [(0, 1), (0, 2), (1, 3), (2, 3), (0, 4), (1, 4)])
+NOTES = Notes((0, 1, 1, 0), (2, 1, 3, 4))
 MOST = 10 ** 12
+
+
+def played(needs, *lots):
+    """A FoeBook after some deeds, with all that they returned."""
+    foe = FoeBook(RIGHT, needs)
+    got = tuple(foe.will(lot) for lot in lots)
+    return (got, foe.own(), foe.finish(), foe.spans_so_far(), foe.now_left, foe.heavy, foe.own_many, foe.will_many,
+            foe.met_many, foe.needs, foe.order)
+
 
 # Calls with lists wherever a list may be passed; generators are read to the end.
 CALLS = {
@@ -71,6 +94,32 @@ CALLS = {
     "common_thing": (common_thing, ORDER, [1], [0]), "left_out": (left_out, ORDER, [[2, 0], [3]], [2, 1, 0]),
     "first_rooms_out": (first_rooms_out, Book(ORDER), 1),
 }
+CALLS.update({
+    "climb": (climb, Book(RIGHT), 2), "top_knot": (top_knot, Book(RIGHT)), "holding_knots": (holding_knots, Book(RIGHT)),
+    "is_best": (is_best, Book(ORDER)), "reaches": (reaches, Book(ORDER), [2, 1], 1),
+    "sum_needs": (sum_needs, [1, 2], [3, 4]), "gap_together": (gap_together, ORDER, [1, 0, 2, 1], [0, 1, 0, 3]),
+    "common_best": (common_best, RIGHT, [1, 0, 2, 1], [0, 0, 1, 1]), "bulge": (bulge, ORDER, [1, 0, 2, 1], [1, 2, 0, 1]),
+    "cover": (cover, RIGHT, [2, 1, 3, 1]), "cover_size": (cover_size, RIGHT, [2, 1, 3, 1]),
+    "cover_lot": (cover_lot, LINE, [2, 1, 3, 1]), "meeting_knot": (meeting_knot, RIGHT, [2, 1, 3, 1]),
+    "raised": (raised, [1, 2], [3, 4]), "raised_heaviest": (raised_heaviest, LINE, [2, 1, 3, 1], [1, 1, 0, 2]),
+    "need_line": (need_line, LINE, [2, 1, 3, 1], 0), "slack": (slack, LINE, [2, 1, 3, 1], 0),
+    "pair_room": (pair_room, LINE, [2, 1, 3, 1], 0, 1), "no pair_room": (pair_room, LINE, [2, 1, 3, 1], 0, 2),
+    "free_together": (free_together, LINE, [2, 1, 3, 1], 0, 1, 1, 0), "cost": (cost, LINE, [2, 1, 3, 1], [3, 0, 0, 1]),
+    "lot_cost": (lot_cost, LINE, [2, 1, 3, 1], [3, 0, 0, 1]), "contrary_ways": (contrary_ways, HOUSE, 0, 1),
+    "even_way": (even_way, HOUSE, 0, 1), "dearer_needs": (dearer_needs, HOUSE, 0, 1),
+    "dearer_now": (dearer_now, HOUSE, [0, 0, 1, 1, 1], 0, 1),
+    "Notes": (lambda low, high: (Notes(low, high).low, Notes(low, high).high), [0, 1], [2, 1]),
+    "kept notes": (lambda needs: Notes.just(needs).high, [0, 1]), "holds_needs": (NOTES.holds_needs, [1, 1, 2, 0]),
+    "high_on": (NOTES.high_on, [3, 0]), "worlds": (lambda: tuple(NOTES.worlds()),),
+    "room_ends_of": (room_ends_of, LINE, NOTES), "world_with": (world_with, LINE, NOTES, 5),
+    "slack_ends": (slack_ends, LINE, NOTES, 0), "slack_worlds": (slack_worlds, LINE, NOTES, 0),
+    "world_of_slack": (world_of_slack, LINE, NOTES, 0, 2), "can_be_critical": (can_be_critical, LINE, NOTES, 0),
+    "must_be_critical": (must_be_critical, LINE, NOTES, 0), "critical_paper": (critical_paper, LINE, NOTES, 0),
+    "FoeBook": (played, [2, 1, 3, 1], [3, 1], [], [2, 0]), "held_by": (held_by, Book(ORDER), [3, 1]),
+    "free_of": (free_of, Book(ORDER), [3, 1]), "met_by": (met_by, Book(ORDER), [3, 1]),
+    "outside_bad": (outside_bad, ORDER, []), "with_stranger": (with_stranger, ORDER, [3, 1], 2),
+    "worst_strangers": (worst_strangers, ORDER, 2), "high_things": (high_things, Book(ORDER), 1),
+})
 
 
 def spoil(value):
@@ -136,7 +185,7 @@ class Values(Case):
                 self.assertTrue(call(*rest) == call(*rest))
 
     def test_yielded_values(self):
-        for results in (knots_of(WEB), lots_of(WEB), mixed_rows([[0], [1]]), settled_bookings(LINE)):
+        for results in (knots_of(WEB), lots_of(WEB), mixed_rows([[0], [1]]), settled_bookings(LINE), NOTES.worlds()):
             for result in results:
                 self.plain(result)
 
@@ -145,7 +194,8 @@ class Generators(Case):
     def test_arguments_are_checked_when_the_first_result_is_asked_for(self):
         for told, error in ((knots_of(WEB, [7]), BadPart(0)), (lots_of(WEB, [1, 1]), BadPart(1)),
                             (mixed_rows([], limit=0), BadNumber("limit")),
-                            (settled_bookings(WEB, limit=True), BadNumber("limit"))):
+                            (settled_bookings(WEB, limit=True), BadNumber("limit")),
+                            (NOTES.worlds(limit=0), BadNumber("limit"))):
             self.assertIs(iter(told), told)
             self.raises(error, next, told)
 
@@ -154,12 +204,14 @@ class Errors(Case):
     def test_a_call_that_raises_changes_nothing(self):
         web, order = Web.line(3), Order.plain(Web.line(3))
         book = Book(order, (1, 2, 3))
-        calls = ((web.part, [0, 0]), (web.with_thing, [9]), (web.settled, 0, 0, True), (order.moved, 0, 9),
+        foe = FoeBook(order, (0, 1, 1))
+        calls = ((foe.will, [0]), (foe.will, [1, 2]), (foe.will, [3]), (web.part, [0, 0]), (web.with_thing, [9]), (web.settled, 0, 0, True), (order.moved, 0, 9),
                  (order.on, Web(9)), (book.holds, [0], 0), (book.lot_at, 0))
         for call, *rest in calls:
             with self.assertRaises(OrdersError):
                 call(*rest)
         self.same((web, order.row, book.spans), (Web(3, [(0, 1), (1, 2)]), (0, 1, 2), Book(order, (1, 2, 3)).spans))
+        self.same((foe.now_left, foe.spans_so_far(), foe.will_many, foe.met_many), ((0, 1, 1), (), 0, 0))
 
 
 class Sizes(Case):
@@ -175,6 +227,14 @@ class Sizes(Case):
         self.same(first_rooms_out(book, 10 ** 14), (0, 0, 0, 0))
         self.same(heaviest(LINE, needs), 2 * MOST - 1)
         self.same(heaviest_way(ORDER, needs), (3 * MOST - 1, (0, 1, 2)))
+
+    def test_great_needs_of_right_orders(self):
+        needs = (MOST, MOST - 1, MOST, 7)
+        self.same(top_knot(Book(RIGHT, needs)), (0, 1))
+        self.same(sum(count for count, _ in cover(RIGHT, needs)), 2 * MOST)
+        self.same(met_by(Book(ORDER, needs), (0,)), MOST - 7)
+        self.same(slack_ends(LINE, Notes((0,) * 4, needs), 3), (0, 2 * MOST - 1))
+        self.same(FoeBook(ORDER, needs).finish(), 2 * MOST + 6)
 
     def test_great_rooms(self):
         self.same(unsettled(LINE, (10 ** 14, 10 ** 14 - 1, 10 ** 14, 1)), (0, 1))

@@ -30,8 +30,27 @@ FUNCTIONS = {
               "counter_needs(order)", "counter_pair(order)"],
     "lots": ["missed_knots(order, part=None)", "missed_part(order)", "common_thing(order, knot, lot)",
              "left_out(order, lots, part=None)", "first_rooms_out(book, many)"],
+    "climbs": ["climb(book, thing)", "top_knot(book)", "holding_knots(book)", "is_best(book)",
+               "reaches(book, knot, room)"],
+    "together": ["sum_needs(needs, other)", "gap_together(order, needs, other)", "common_best(order, needs, other)",
+                 "bulge(order, needs, other)"],
+    "covers": ["cover(order, needs=None)", "cover_size(order, needs=None)", "cover_lot(web, needs=None)",
+               "meeting_knot(order, needs=None)"],
+    "raises": ["raised(needs, raises)", "raised_heaviest(web, needs, raises)", "need_line(web, needs, thing)",
+               "slack(web, needs, thing)", "pair_room(web, needs, x, y)", "free_together(web, needs, x, y, s, t)",
+               "cost(web, needs, raises)", "lot_cost(web, needs, raises)", "contrary_ways(web, x, y)",
+               "even_way(web, x, y)", "dearer_needs(web, x, y)", "dearer_now(web, needs, x, y)"],
+    "notes": [],
+    "worlds": ["room_ends_of(web, notes)", "world_with(web, notes, goal)", "slack_ends(web, notes, thing)",
+               "slack_worlds(web, notes, thing)", "world_of_slack(web, notes, thing, goal)",
+               "can_be_critical(web, notes, thing)", "must_be_critical(web, notes, thing)",
+               "critical_paper(web, notes, thing)"],
+    "foes": [],
+    "strangers": ["held_by(book, things)", "free_of(book, things)", "met_by(book, strangers)",
+                  "outside_bad(order, strangers)", "with_stranger(order, near, place)",
+                  "worst_strangers(order, many)", "high_things(book, room)"],
 }
-GENERATORS = ("knots_of", "lots_of", "mixed_rows", "settled_bookings")
+GENERATORS = ("knots_of", "lots_of", "mixed_rows", "settled_bookings", "worlds")
 CLASSES = {
     "webs.Web": (["__init__(self, many, clashes=())", "clash(self, x, y)", "near(self, x)", "part(self, things)",
                   "without(self, x)", "with_thing(self, near)", "settled(self, x, y, clashing)"],
@@ -46,7 +65,12 @@ CLASSES = {
     "books.Book": (["__init__(self, order, needs=None)", "rooms_of(self, x)", "last_of(self, x)",
                     "lot_at(self, room)", "holds(self, things, room)", "holds_all(self, things)"],
                    [], ["room_count"], ["__getitem__", "__len__", "__iter__", "__eq__"]),
+    "notes.Notes": (["__init__(self, low, high)", "holds_needs(self, needs)", "high_on(self, things)",
+                     "worlds(self, *, limit=500)"], [], ["is_settled"], []),
+    "foes.FoeBook": (["__init__(self, order, needs=None)", "own(self)", "will(self, lot)", "spans_so_far(self)",
+                      "finish(self)"], [], ["now_left", "heavy", "own_many", "will_many", "met_many"], []),
 }
+STATIC = {"notes.Notes": ["just(needs)"]}
 
 
 class Interface(Case):
@@ -78,6 +102,12 @@ class Interface(Case):
                 self.assertIsInstance(vars(made)[name], property)
             for name in signs:
                 self.assertIn(name, vars(made))
+            for text in STATIC.get(path, []):
+                name = text.split("(")[0]
+                self.assertIsInstance(vars(made)[name], staticmethod)
+                self.assertEqual(name + str(inspect.signature(getattr(made, name))), text)
+            for name, value in vars(made).items():
+                self.assertEqual(inspect.isgeneratorfunction(value), name in GENERATORS, name)
 
 
 if __name__ == "__main__":

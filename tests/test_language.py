@@ -11,7 +11,7 @@ FILES = sorted(PACKAGE.rglob("*.py"))
 TREES = {path: ast.parse(path.read_text()) for path in FILES}
 
 BUILTINS = set("len range enumerate zip min max sum abs sorted reversed int str bool list tuple dict set isinstance "
-               "repr any all divmod iter Exception NotImplemented property classmethod".split())
+               "repr any all divmod iter Exception NotImplemented property classmethod staticmethod".split())
 METHODS = set("append clear copy count endswith extend find get index insert isalnum isalpha isdigit islower isspace "
               "isupper items join keys ljust lower lstrip partition pop remove replace reverse rfind rjust rpartition "
               "rsplit rstrip setdefault split splitlines startswith strip update upper values zfill bit_length "
@@ -129,7 +129,7 @@ class Language(unittest.TestCase):
     def test_decorators_and_classes(self):
         for name, node in nodes((ast.FunctionDef, ast.ClassDef)):
             told = [ast.unparse(decorator) for decorator in node.decorator_list]
-            self.assertIn(told, ([], ["property"], ["classmethod"]), (name, node.name))
+            self.assertIn(told, ([], ["property"], ["classmethod"], ["staticmethod"]), (name, node.name))
             if node.name.startswith("__"):
                 self.assertIn(node.name, SIGNS, name)
 
