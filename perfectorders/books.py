@@ -7,12 +7,17 @@ from perfectorders.masks import things_in
 from perfectorders.runs import holds_room, least_rooms, spans_of
 
 
-def booked_runs(order, needs):
-    """Return for each thing the runs of the rooms that it takes, a tuple."""
-    held = [()] * len(order)
+def booked_runs(order, needs, starts, ahead):
+    """Return for each thing the runs of the rooms that it holds, a tuple.
+
+    `starts` has the least room that each thing may take, `ahead` the runs that it holds already; a thing
+    that holds some takes no other rooms.
+    """
+    held = list(ahead)
     for thing in order.row:
-        taken = [run for other in order.ahead_of(thing) for run in held[other]]
-        held[thing] = least_rooms(taken, needs[thing])
+        if not ahead[thing]:
+            taken = [run for other in order.web.near(thing) for run in held[other]]
+            held[thing] = least_rooms(taken, needs[thing], starts[thing])
     return tuple(held)
 
 
@@ -20,10 +25,16 @@ class Book:
     """The book of an order: each thing in its order takes its least free rooms."""
 
     def __init__(self, order, needs=None):
+        many = len(order)
+        told = check_needs(many, needs)
+        self.keep(order, told, booked_runs(order, told, (1,) * many, ((),) * many))
+
+    def keep(self, order, needs, runs):
+        """Keep the runs of the rooms that each thing holds; the classes beneath work them out otherwise."""
         self.order = order
-        self.needs = check_needs(len(order), needs)
-        self.runs = booked_runs(order, self.needs)
-        self.spans = spans_of(self.runs)
+        self.needs = needs
+        self.runs = runs
+        self.spans = spans_of(runs)
 
     @property
     def room_count(self):

@@ -4,10 +4,24 @@ Rooms are never counted one by one, so that the work does not grow with their nu
 """
 
 
-def least_rooms(taken, many):
-    """Return as ascending runs the least `many` rooms that lie in none of the runs `taken`, which may overlap."""
+def runs_of(rooms):
+    """Return the ascending rooms as ascending runs."""
+    runs = []
+    for room in rooms:
+        if runs and runs[-1][1] == room - 1:
+            runs[-1] = (runs[-1][0], room)
+        else:
+            runs.append((room, room))
+    return tuple(runs)
+
+
+def least_rooms(taken, many, start=1):
+    """Return as ascending runs the least `many` rooms from the start on that lie in none of the runs `taken`.
+
+    The runs `taken` may overlap.
+    """
     found = []
-    room = 1
+    room = start
     left = many
     for first, last in sorted(taken):
         count = min(left, first - room)
@@ -38,6 +52,8 @@ def lot_of_runs(runs, room):
 def spans_of(runs):
     """Return the spans of a book; `runs` has the runs of each thing."""
     edges = set()
+    # Room 1 begins a span even if nothing holds it.
+    edges.add(1)
     for held in runs:
         for first, last in held:
             edges.add(first)

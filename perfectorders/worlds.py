@@ -77,13 +77,11 @@ def need_toward(web, world, thing, other, goal, last):
     If there is none, `last` is returned.
     """
     own = world[other]
-    fitting = []
     for need in meeting_needs(web, with_entry(world, other, 0), thing, other, goal):
         between = min(own, last) <= need <= max(own, last)
         if between and slack(web, with_entry(world, other, need), thing) == goal:
-            fitting.append((abs(need - own), need))
-    _, first = min(fitting, default=(0, last))
-    return first
+            return need
+    return last
 
 
 def world_of_slack(web, notes, thing, goal):

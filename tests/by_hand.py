@@ -109,13 +109,18 @@ def heaviest_weight(web, needs, holding=()):
 
 def rows_by_hand(web):
     """All rows of four with a < d, by going through all rows of four unlike things."""
-    edges = set(web.clashes)
+    return kept_rows(web.many, web.clashes)
+
+
+@lru_cache(maxsize=None)
+def kept_rows(many, clashes):
+    edges = set(clashes)
 
     def fits(a, b, c, d):
         return (sides(a, b) in edges and sides(b, c) in edges and sides(c, d) in edges
                 and sides(a, c) not in edges and sides(b, d) not in edges and sides(a, d) not in edges)
 
-    return tuple(row for row in permutations(range(web.many), 4) if row[0] < row[3] and fits(*row))
+    return tuple(row for row in permutations(range(many), 4) if row[0] < row[3] and fits(*row))
 
 
 def all_orders(web):
@@ -140,8 +145,8 @@ def rooms_by_hand(web, row, needs):
     return held
 
 
-def spans_by_hand(web, row, needs):
-    held = rooms_by_hand(web, row, needs)
+def spans_of_rooms(held):
+    """The spans of the rooms that each thing holds, room after room, also where nothing holds one."""
     count = max([max(rooms, default=0) for rooms in held.values()], default=0)
     spans = []
     for room in range(1, count + 1):
@@ -151,6 +156,10 @@ def spans_by_hand(web, row, needs):
         else:
             spans.append((1, lot))
     return tuple(spans)
+
+
+def spans_by_hand(web, row, needs):
+    return spans_of_rooms(rooms_by_hand(web, row, needs))
 
 
 def count_by_hand(web, row, needs):
@@ -196,6 +205,18 @@ def added(needs, more):
 def at(needs, thing, need):
     """The needs with another need for the thing."""
     return tuple(need if other == thing else old for other, old in enumerate(needs))
+
+
+def threes_by_hand(web):
+    """All threes (x, m, y), read from either end, by going through all triples."""
+    return list(kept_threes(web.many, web.clashes))
+
+
+@lru_cache(maxsize=None)
+def kept_threes(many, clashes):
+    web = Web(many, clashes)
+    return [(x, m, y) for x, m, y in permutations(range(many), 3)
+            if clash(web, x, m) and clash(web, m, y) and not clash(web, x, y)]
 
 
 def rooms_held(book_by_thing, things):

@@ -7,15 +7,20 @@ import unittest
 from pathlib import Path
 
 from perfectorders.amounts import check_needs, check_things, weight
+from perfectorders.booked import AheadBook
 from perfectorders.books import Book, alike_in_parts, book_by_rooms, first_lot, room_count, squeezed
 from perfectorders.bounds import heaviest_way, most_ahead
+from perfectorders.choices import (check_choice, choice_of, choice_ring, choice_tree, fits_choice, has_right_order,
+                                   is_choice_tree, order_of_choice, right_order, right_order_count, right_orders)
 from perfectorders.climbs import climb, holding_knots, is_best, reaches, top_knot
 from perfectorders.covers import cover, cover_lot, cover_size, meeting_knot
-from perfectorders.errors import BadNumber, BadPart, OrdersError
+from perfectorders.errors import BadNumber, BadPart, OrdersError, TooMany
 from perfectorders.foes import FoeBook
 from perfectorders.joins import beside, joined, made_one, number_of, product, put_in, thing_of
+from perfectorders.kinds import bad_in, first_against, keeps, kinds_of, letter_order, row_letters, row_tally
 from perfectorders.knots import (full_knots, full_lots, heaviest, heaviest_knots, heaviest_lots, is_knot, is_lot,
                                  knots_of, lots_of)
+from perfectorders.lazy import is_lazy, lazy_bookings, lazy_counter, with_pair
 from perfectorders.lots import common_thing, first_rooms_out, left_out, missed_knots, missed_part
 from perfectorders.makers import doubled, mixed_rows
 from perfectorders.notes import Notes
@@ -27,10 +32,16 @@ from perfectorders.raises import (contrary_ways, cost, dearer_needs, dearer_now,
 from perfectorders.right import bad_rows, check_right, counter_needs, counter_pair, counter_part, first_bad, is_right
 from perfectorders.settled import (booking_with, check_booking, order_of_booking, room_ends, rooms_row,
                                    settled_bookings, unsettled)
+from perfectorders.startkinds import all_starts_order, barring_four, early_end, pieces, start_run, starts_for
+from perfectorders.starts import (StartBook, bad_threes, check_starts, floor, floor_paper, start_climb, starts_counter,
+                                  starts_fit)
 from perfectorders.strangers import (free_of, held_by, high_things, met_by, outside_bad, with_stranger,
                                      worst_strangers)
 from perfectorders.texts import web_from, web_text
+from perfectorders.threekinds import (between, is_gathered, is_middles_first, is_passing, middle_last, numbers_for,
+                                      put_in_kinds, three_needs)
 from perfectorders.together import bulge, common_best, gap_together, sum_needs
+from perfectorders.twofold import Fourfold, check_twofold, first_knot, is_twofold, shared_thing
 from perfectorders.webs import Web
 from perfectorders.worlds import (can_be_critical, critical_paper, must_be_critical, room_ends_of, slack_ends,
                                   slack_worlds, world_of_slack, world_with)
@@ -120,6 +131,36 @@ CALLS.update({
     "outside_bad": (outside_bad, ORDER, []), "with_stranger": (with_stranger, ORDER, [3, 1], 2),
     "worst_strangers": (worst_strangers, ORDER, 2), "high_things": (high_things, Book(ORDER), 1),
 })
+CALLS.update({
+    "AheadBook": (AheadBook, ORDER, [[2], [], [], [4, 1]], [9, 2, 2, 9]), "check_starts": (check_starts, 2, [3, 1]),
+    "own_count": (lambda rooms: AheadBook(ORDER, rooms).own_count, [[2], [], [], [4, 1]]),
+    "held_by ahead": (held_by, AheadBook(ORDER, [[2], [], [], [4]]), [0, 1]),
+    "free_of starts": (free_of, StartBook(ORDER, [2, 3, 1, 1]), [0, 1]),
+    "StartBook": (StartBook, ORDER, [2, 3, 1, 1], [1, 0, 2, 1]), "floor": (floor, LINE, [2, 3, 1, 1], [1, 0, 2, 1]),
+    "floor_paper": (floor_paper, LINE, [2, 3, 1, 1], [1, 0, 2, 1]), "bad_threes": (bad_threes, ORDER, [1, 1, 3, 1]),
+    "starts_fit": (starts_fit, ORDER, [1, 1, 3, 1]), "starts_counter": (starts_counter, ORDER, [1, 1, 3, 1]),
+    "start_climb": (start_climb, StartBook(RIGHT, (1, 1, 1, 1))), "early_end": (early_end, ORDER),
+    "starts_for": (starts_for, LINE, [0, 1, 2]), "all_starts_order": (all_starts_order, Web.star(4)),
+    "barring_four": (barring_four, LINE), "pieces": (pieces, LINE, [3, 1, 0]),
+    "start_run": (start_run, ORDER, [1, 1, 3, 1], 1), "row_letters": (row_letters, ORDER, [3, 2, 1, 0]),
+    "bad_in": (bad_in, ORDER, "F"), "kinds_of": (kinds_of, ORDER), "keeps": (keeps, ORDER, "FT"),
+    "first_against": (first_against, ORDER, "FT"), "letter_order": (letter_order, ORDER, "D"), "row_tally": (row_tally,),
+    "between": (between, RIGHT), "middle_last": (middle_last, ORDER), "is_passing": (is_passing, ORDER),
+    "is_gathered": (is_gathered, ORDER), "is_middles_first": (is_middles_first, ORDER),
+    "three_needs": (three_needs, LINE, [2, 0, 1]), "put_in_kinds": (put_in_kinds, Order.plain(Web(2)), [ORDER, RIGHT]),
+    "numbers_for": (numbers_for, Order.plain(Web.falling([3, 1, 2]))),
+    "lazy_bookings": (lambda: tuple(lazy_bookings(ORDER)),), "is_lazy": (is_lazy, ORDER, [1, 2, 3, 1]),
+    "with_pair": (with_pair, ORDER), "lazy_counter": (lazy_counter, ORDER), "is_twofold": (is_twofold, ORDER),
+    "check_twofold": (check_twofold, RIGHT), "first_knot": (first_knot, ORDER, [3, 1, 0]),
+    "shared_thing": (shared_thing, RIGHT, [3, 1, 0]),
+    "Fourfold": (lambda needs: tuple(vars(Fourfold(RIGHT, needs)).values()), [2, 1, 3, 1]),
+    "check_choice": (check_choice, LINE, [3]), "choice_of": (choice_of, RIGHT),
+    "fits_choice": (fits_choice, ORDER, [3]), "choice_ring": (choice_ring, Web.line(6), [3, 1, 2]),
+    "order_of_choice": (order_of_choice, LINE, [3]), "choice_tree": (choice_tree, Web.ring(5)),
+    "is_choice_tree": (is_choice_tree, Web.ring(5), choice_tree(Web.ring(5))), "has_right_order": (has_right_order, WEB),
+    "right_order": (right_order, LINE), "right_orders": (lambda: tuple(right_orders(LINE)),),
+    "right_order_count": (right_order_count, LINE),
+})
 
 
 def spoil(value):
@@ -145,8 +186,10 @@ class Values(Case):
             for part in value:
                 self.plain(part)
         elif isinstance(value, (Web, Order, Book)):
-            for name in {Web: ("many", "clashes", "many_clashes"), Order: ("web", "row", "LETTERS"),
-                         Book: ("order", "needs", "spans", "room_count")}[type(value)]:
+            book = ("order", "needs", "spans", "room_count")
+            for name in {Web: ("many", "clashes", "many_clashes"), Order: ("web", "row", "LETTERS"), Book: book,
+                         AheadBook: (*book, "rooms_ahead", "ahead_things", "own_count"),
+                         StartBook: (*book, "starts")}[type(value)]:
                 self.plain(getattr(value, name))
         else:
             self.assertIn(type(value), (int, str, bool, type(None)))
@@ -185,7 +228,8 @@ class Values(Case):
                 self.assertTrue(call(*rest) == call(*rest))
 
     def test_yielded_values(self):
-        for results in (knots_of(WEB), lots_of(WEB), mixed_rows([[0], [1]]), settled_bookings(LINE), NOTES.worlds()):
+        for results in (knots_of(WEB), lots_of(WEB), mixed_rows([[0], [1]]), settled_bookings(LINE), NOTES.worlds(),
+                        lazy_bookings(ORDER), right_orders(LINE)):
             for result in results:
                 self.plain(result)
 
@@ -195,7 +239,8 @@ class Generators(Case):
         for told, error in ((knots_of(WEB, [7]), BadPart(0)), (lots_of(WEB, [1, 1]), BadPart(1)),
                             (mixed_rows([], limit=0), BadNumber("limit")),
                             (settled_bookings(WEB, limit=True), BadNumber("limit")),
-                            (NOTES.worlds(limit=0), BadNumber("limit"))):
+                            (NOTES.worlds(limit=0), BadNumber("limit")), (right_orders(Web(8)), TooMany(7)),
+                            (lazy_bookings(ORDER, limit=None), BadNumber("limit"))):
             self.assertIs(iter(told), told)
             self.raises(error, next, told)
 
@@ -235,6 +280,13 @@ class Sizes(Case):
         self.same(met_by(Book(ORDER, needs), (0,)), MOST - 7)
         self.same(slack_ends(LINE, Notes((0,) * 4, needs), 3), (0, 2 * MOST - 1))
         self.same(FoeBook(ORDER, needs).finish(), 2 * MOST + 6)
+
+    def test_great_starts(self):
+        starts = (MOST, 1, MOST - 5, 3)
+        book = StartBook(RIGHT, starts, (MOST, 7, MOST, MOST))
+        # The last thing takes the rooms 3 to MOST - 6, and 8 more behind those of thing 2.
+        self.same((book.room_count, book.last_of(2), held_by(book, (1,))), (2 * MOST + 2, 2 * MOST - 6, 7))
+        self.same(floor(LINE, starts, book.needs), 2 * MOST + 2)
 
     def test_great_rooms(self):
         self.same(unsettled(LINE, (10 ** 14, 10 ** 14 - 1, 10 ** 14, 1)), (0, 1))

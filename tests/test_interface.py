@@ -49,8 +49,26 @@ FUNCTIONS = {
     "strangers": ["held_by(book, things)", "free_of(book, things)", "met_by(book, strangers)",
                   "outside_bad(order, strangers)", "with_stranger(order, near, place)",
                   "worst_strangers(order, many)", "high_things(book, room)"],
+    "booked": [],
+    "starts": ["check_starts(many, starts)", "floor(web, starts, needs=None)", "floor_paper(web, starts, needs=None)",
+               "bad_threes(order, starts)", "starts_fit(order, starts)", "start_climb(book)",
+               "starts_counter(order, starts)"],
+    "startkinds": ["early_end(order)", "starts_for(web, three)", "all_starts_order(web)", "barring_four(web)",
+                   "pieces(web, part=None)", "start_run(order, starts, thing)"],
+    "kinds": ["row_letters(order, row)", "bad_in(order, letter)", "kinds_of(order)", "keeps(order, letters)",
+              "first_against(order, letters)", "letter_order(order, letter)", "row_tally()"],
+    "threekinds": ["between(order)", "middle_last(order)", "is_passing(order)", "is_gathered(order)",
+                   "is_middles_first(order)", "three_needs(web, three)", "put_in_kinds(outer, orders)",
+                   "numbers_for(order)"],
+    "lazy": ["lazy_bookings(order, *, limit=500)", "is_lazy(order, rooms)", "with_pair(order)", "lazy_counter(order)"],
+    "twofold": ["is_twofold(order)", "check_twofold(order)", "first_knot(order, part=None)",
+                "shared_thing(order, part=None)"],
+    "choices": ["check_choice(web, choice)", "choice_of(order)", "fits_choice(order, choice)",
+                "choice_ring(web, choice)", "order_of_choice(web, choice)", "choice_tree(web)",
+                "is_choice_tree(web, tree)", "has_right_order(web)", "right_order(web)", "right_orders(web)",
+                "right_order_count(web)"],
 }
-GENERATORS = ("knots_of", "lots_of", "mixed_rows", "settled_bookings", "worlds")
+GENERATORS = ("knots_of", "lots_of", "mixed_rows", "settled_bookings", "worlds", "lazy_bookings", "right_orders")
 CLASSES = {
     "webs.Web": (["__init__(self, many, clashes=())", "clash(self, x, y)", "near(self, x)", "part(self, things)",
                   "without(self, x)", "with_thing(self, near)", "settled(self, x, y, clashing)"],
@@ -69,7 +87,11 @@ CLASSES = {
                      "worlds(self, *, limit=500)"], [], ["is_settled"], []),
     "foes.FoeBook": (["__init__(self, order, needs=None)", "own(self)", "will(self, lot)", "spans_so_far(self)",
                       "finish(self)"], [], ["now_left", "heavy", "own_many", "will_many", "met_many"], []),
+    "booked.AheadBook": (["__init__(self, order, rooms, needs=None)"], [], ["own_count"], []),
+    "starts.StartBook": (["__init__(self, order, starts, needs=None)"], [], [], []),
+    "twofold.Fourfold": (["__init__(self, order, needs=None)"], [], [], []),
 }
+BENEATH = {"booked.AheadBook": "Book", "starts.StartBook": "Book"}
 STATIC = {"notes.Notes": ["just(needs)"]}
 
 
@@ -102,6 +124,7 @@ class Interface(Case):
                 self.assertIsInstance(vars(made)[name], property)
             for name in signs:
                 self.assertIn(name, vars(made))
+            self.assertEqual([base.__name__ for base in made.__bases__], [BENEATH.get(path, "object")])
             for text in STATIC.get(path, []):
                 name = text.split("(")[0]
                 self.assertIsInstance(vars(made)[name], staticmethod)

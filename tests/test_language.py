@@ -57,7 +57,9 @@ class Language(unittest.TestCase):
         for path, tree in TREES.items():
             for node in tree.body:
                 docstring = isinstance(node, ast.Expr) and isinstance(node.value, ast.Constant)
-                self.assertTrue(docstring or isinstance(node, (ast.ImportFrom, ast.FunctionDef, ast.ClassDef)), path)
+                plain = isinstance(node, ast.Assign) and isinstance(node.value, ast.Constant)
+                code = isinstance(node, (ast.ImportFrom, ast.FunctionDef, ast.ClassDef))
+                self.assertTrue(docstring or plain or code, path)
 
     def test_imports_name_the_defining_file_and_have_no_ring(self):
         defined = {path.stem: {node.name for node in tree.body if isinstance(node, (ast.FunctionDef, ast.ClassDef))}
@@ -125,6 +127,52 @@ class Language(unittest.TestCase):
                 fits = fits or (isinstance(above, ast.Call) and isinstance(above.func, ast.Name)
                                 and above.func.id in at_once)
                 self.assertTrue(fits, (path.name, node.lineno))
+
+    def test_reversed_and_stars(self):
+        for name, node in nodes(ast.Call):
+            if isinstance(node.func, ast.Name) and node.func.id == "reversed":
+                inner = node.args[0]
+                self.assertIsInstance(inner, ast.Call, (name, node.lineno))
+                self.assertIn(inner.func.id, ("range", "list", "tuple", "sorted"), (name, node.lineno))
+            for argument in node.args:
+                if isinstance(argument, ast.Starred):
+                    self.assertIsInstance(argument.value, (ast.Name, ast.Attribute), (name, node.lineno))
+        for name, node in nodes((ast.List, ast.Tuple)):
+            for part in node.elts:
+                if isinstance(part, ast.Starred) and isinstance(part.value, ast.Call):
+                    self.assertEqual(part.value.func.id, "sorted", (name, node.lineno))
+
+    def test_methods_attributes_and_generators_have_names_of_their_own(self):
+        functions = [node for _, node in nodes(ast.FunctionDef)]
+        methods = {node.name for _, made in nodes(ast.ClassDef) for node in made.body
+                   if isinstance(node, ast.FunctionDef)}
+        attributes = {node.attr for _, node in nodes(ast.Attribute) if isinstance(node.ctx, ast.Store)}
+        self.assertEqual(methods & attributes, set())
+        read = {node.attr for _, node in nodes(ast.Attribute) if isinstance(node.ctx, ast.Load)}
+        class_values = {target.id for _, made in nodes(ast.ClassDef) for node in made.body
+                        if isinstance(node, ast.Assign) for target in node.targets}
+        self.assertEqual(read - methods - attributes - METHODS - class_values, set())
+        generators = [node.name for node in functions
+                      if any(isinstance(inner, (ast.Yield, ast.YieldFrom)) for inner in ast.walk(node))]
+        for name in generators:
+            self.assertEqual([node.name for node in functions].count(name), 1, name)
+
+    def test_local_names_are_no_names_of_the_file(self):
+        for path, tree in TREES.items():
+            own = {node.name for node in tree.body if isinstance(node, (ast.FunctionDef, ast.ClassDef))}
+            local = {node.id for function in ast.walk(tree) if isinstance(function, ast.FunctionDef)
+                     for node in ast.walk(function) if isinstance(node, ast.Name) and isinstance(node.ctx, ast.Store)}
+            local |= {node.arg for node in ast.walk(tree) if isinstance(node, ast.arg)}
+            self.assertEqual(own & local, set(), path.name)
+
+    def test_what_is_passed_to_a_generator(self):
+        generators = {node.name for _, node in nodes(ast.FunctionDef)
+                      if any(isinstance(inner, (ast.Yield, ast.YieldFrom)) for inner in ast.walk(node))}
+        for name, node in nodes(ast.Call):
+            called = getattr(node.func, "id", getattr(node.func, "attr", ""))
+            if called in generators:
+                for argument in node.args:
+                    self.assertIsInstance(argument, (ast.Name, ast.Attribute, ast.Constant), (name, node.lineno))
 
     def test_decorators_and_classes(self):
         for name, node in nodes((ast.FunctionDef, ast.ClassDef)):
