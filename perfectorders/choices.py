@@ -56,10 +56,13 @@ def order_of_choice(web, choice):
     return Order(web, row)
 
 
-def has_chosen(row, arrows):
-    """Tell whether one of the two arrows of the row of four is chosen."""
-    a, b, c, d = row
-    return has_arrow(arrows, b, a) or has_arrow(arrows, c, d)
+def first_unchosen(rows, arrows):
+    """Return the first row of four neither of whose two arrows is chosen, None if there is none."""
+    for row in rows:
+        a, b, c, d = row
+        if not has_arrow(arrows, b, a) and not has_arrow(arrows, c, d):
+            return row
+    return None
 
 
 def tree_from(rows, arrows, behind, known):
@@ -73,10 +76,11 @@ def tree_from(rows, arrows, behind, known):
     if behind is None:
         tree = least_ring(arrows)
     else:
-        a, b, c, d = [row for row in rows if not has_chosen(row, arrows)][0]
+        row = first_unchosen(rows, arrows)
+        a, b, c, d = row
         first = tree_from(rows, with_arrow(arrows, b, a), put_ahead(behind, b, a), known)
         second = tree_from(rows, with_arrow(arrows, c, d), put_ahead(behind, c, d), known)
-        tree = ((a, b, c, d), first, second)
+        tree = (row, first, second)
     known[arrows] = tree
     return tree
 
