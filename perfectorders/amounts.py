@@ -18,6 +18,14 @@ def is_thing(many, value):
     return is_int(value) and 0 <= value < many
 
 
+def are_two_things(many, value):
+    """Tell whether the value is a pair of two unlike things."""
+    if not is_pair(value):
+        return False
+    x, y = value
+    return is_thing(many, x) and is_thing(many, y) and x != y
+
+
 def check_number(value, name, least=0):
     """Return the value, an integer of at least `least`."""
     if not is_int(value) or value < least:
@@ -47,11 +55,11 @@ def check_two_things(many, x, y):
         raise BadThing(y)
 
 
-def first_wrong(many, things):
-    """Return the first place whose entry is no thing or stands at an earlier place, too, or None."""
+def first_unfit(things, row):
+    """Return the first place whose entry is none of the things or stands at an earlier place, too, or None."""
     seen = set()
-    for place, thing in enumerate(things):
-        if not is_thing(many, thing) or thing in seen:
+    for place, thing in enumerate(row):
+        if not is_int(thing) or thing not in things or thing in seen:
             return place
         seen.add(thing)
     return None
@@ -59,7 +67,7 @@ def first_wrong(many, things):
 
 def check_things(many, things):
     """Return the set of things as an ascending tuple."""
-    place = first_wrong(many, things)
+    place = first_unfit(tuple(range(many)), things)
     if place is not None:
         raise BadPart(place)
     return tuple(sorted(things))

@@ -60,7 +60,7 @@ def is_ring(arrows, value):
     return all([has_arrow(arrows, x, y) for x, y in zip(value, [*value[1:], value[0]])])
 
 
-def least_row(arrows):
+def row_along(arrows):
     """Return the least row of all things in which each arrow leads to a thing behind, None if there is none."""
     row = []
     left = list(range(len(arrows)))

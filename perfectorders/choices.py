@@ -1,7 +1,7 @@
 """Choices of ends of the rows of four, their rings of arrows, and right orders."""
 
 from perfectorders.amounts import is_int, is_thing
-from perfectorders.arrows import has_arrow, is_ring, least_ring, least_row, no_arrows, with_arrow
+from perfectorders.arrows import has_arrow, is_ring, least_ring, no_arrows, row_along, with_arrow
 from perfectorders.errors import BadNumber, NoOrder, TooMany
 from perfectorders.orders import Order
 from perfectorders.quads import is_row, rows_of_four
@@ -50,7 +50,7 @@ def choice_ring(web, choice):
 
 def order_of_choice(web, choice):
     """Return the Order with the least row of those that fit the choice."""
-    row = least_row(arrows_of(web, choice))
+    row = row_along(arrows_of(web, choice))
     if row is None:
         raise NoOrder()
     return Order(web, row)

@@ -36,6 +36,30 @@ def near_masks(many, clashes):
     return tuple(masks)
 
 
+def piece_of(masks, part, thing):
+    """Return the mask of the piece of the part that holds the thing; `masks` are the near masks of the web."""
+    piece = 1 << thing
+    edge = piece
+    while edge:
+        near = 0
+        for x in things_in(edge):
+            near = near | masks[x]
+        edge = near & part & ~piece
+        piece = piece | edge
+    return piece
+
+
+def piece_masks(masks, part):
+    """Return the masks of the pieces of the part, by their least things, a list."""
+    found = []
+    left = part
+    while left:
+        piece = piece_of(masks, left, least_in(left))
+        found.append(piece)
+        left = left & ~piece
+    return found
+
+
 def full_masks(masks, part):
     """Return the masks of the full knots of the part, a list in no stated order.
 
@@ -60,3 +84,18 @@ def full_masks(masks, part):
             fitting = fitting & ~bit
             done = done | bit
     return found
+
+
+def lots_within(masks, part):
+    """Return the masks of all lots of the part, the empty one first, a list; `masks` are the near masks of the web."""
+    found = [0]
+    for thing in things_in(part):
+        found.extend([lot | (1 << thing) for lot in list(found) if lot & masks[thing] == 0])
+    return found
+
+
+def least_meeting(many, masks):
+    """Return the sets with the fewest of the numbers 0 to many - 1 that meet each of the masks, ascending."""
+    found = [things_in(chosen) for chosen in range(1 << many) if all([chosen & mask for mask in masks])]
+    fewest = min([len(chosen) for chosen in found], default=0)
+    return tuple(sorted([chosen for chosen in found if len(chosen) == fewest]))

@@ -1,18 +1,23 @@
 """Orders of webs."""
 
-from perfectorders.amounts import check_place, check_thing, check_things, first_wrong, is_int, is_thing
+from perfectorders.amounts import check_place, check_thing, check_things, first_unfit, is_int, is_thing
 from perfectorders.errors import BadNumber, BadOrder
 from perfectorders.joins import beside, first_numbers, joined, product, put_in
 
 
-def checked_row(many, row):
-    """Return the row of all things as a tuple."""
-    place = first_wrong(many, row)
+def checked_row_of(things, row):
+    """Return the row, which must hold each of these things just once, as a tuple."""
+    place = first_unfit(things, row)
     if place is not None:
         raise BadOrder(place)
-    if len(row) < many:
+    if len(row) < len(things):
         raise BadOrder(len(row))
     return tuple(row)
+
+
+def checked_row(many, row):
+    """Return the row of the things 0 to many - 1 as a tuple."""
+    return checked_row_of(tuple(range(many)), row)
 
 
 def places_in(row):

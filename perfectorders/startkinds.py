@@ -2,7 +2,7 @@
 
 from perfectorders.amounts import check_part, check_thing, check_things
 from perfectorders.errors import NoOrder
-from perfectorders.masks import least_in, mask_of, things_in, whole_mask
+from perfectorders.masks import mask_of, piece_masks, piece_of, things_in, whole_mask
 from perfectorders.orders import Order
 from perfectorders.quads import rows_of_four
 from perfectorders.starts import check_starts, led_threes
@@ -21,19 +21,6 @@ def starts_for(web, three):
     """Return the starts 2 for the first thing of the three and 1 elsewhere, a tuple."""
     check_things(web.many, three)
     return tuple([2 if thing == three[0] else 1 for thing in range(web.many)])
-
-
-def piece_of(masks, part, thing):
-    """Return the mask of the piece of the part that holds the thing; `masks` are the near masks of the web."""
-    piece = 1 << thing
-    edge = piece
-    while edge:
-        near = 0
-        for x in things_in(edge):
-            near = near | masks[x]
-        edge = near & part & ~piece
-        piece = piece | edge
-    return piece
 
 
 def spanning_thing(masks, part):
@@ -81,13 +68,8 @@ def barring_four(web):
 
 def pieces(web, part=None):
     """Return the pieces of the part, an ascending tuple of ascending tuples."""
-    left = mask_of(check_part(web.many, part))
-    found = []
-    while left:
-        piece = piece_of(web.masks, left, least_in(left))
-        found.append(things_in(piece))
-        left = left & ~piece
-    return tuple(found)
+    whole = mask_of(check_part(web.many, part))
+    return tuple([things_in(piece) for piece in piece_masks(web.masks, whole)])
 
 
 def start_run(order, starts, thing):

@@ -1,6 +1,6 @@
 """Webs: things, some pairs of which clash."""
 
-from perfectorders.amounts import check_number, check_thing, check_things, check_two_things
+from perfectorders.amounts import are_two_things, check_number, check_thing, check_things, check_two_things
 from perfectorders.amounts import is_int, is_pair, is_thing
 from perfectorders.errors import BadNumber, BadRules, BadWeb
 from perfectorders.masks import near_masks, things_in
@@ -50,11 +50,9 @@ def check_unlike_numbers(numbers):
 
 def is_rule(many, under, pair):
     """Tell whether the pair is a rule (x, y) that does not turn round one told by `under`."""
-    if not is_pair(pair):
+    if not are_two_things(many, pair):
         return False
     x, y = pair
-    if not is_thing(many, x) or not is_thing(many, y) or x == y:
-        return False
     return (under[y] >> x) & 1 == 0
 
 

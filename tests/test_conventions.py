@@ -13,6 +13,7 @@ from perfectorders.bounds import heaviest_way, most_ahead
 from perfectorders.choices import (check_choice, choice_of, choice_ring, choice_tree, fits_choice, has_right_order,
                                    is_choice_tree, order_of_choice, right_order, right_order_count, right_orders)
 from perfectorders.climbs import climb, holding_knots, is_best, reaches, top_knot
+from perfectorders.counts import (both_led, line_right_leads, mixings, put_in_bad, representatives, sides_count)
 from perfectorders.covers import cover, cover_lot, cover_size, meeting_knot
 from perfectorders.errors import BadNumber, BadPart, OrdersError, TooMany
 from perfectorders.foes import FoeBook
@@ -21,15 +22,22 @@ from perfectorders.kinds import bad_in, first_against, keeps, kinds_of, letter_o
 from perfectorders.knots import (full_knots, full_lots, heaviest, heaviest_knots, heaviest_lots, is_knot, is_lot,
                                  knots_of, lots_of)
 from perfectorders.lazy import is_lazy, lazy_bookings, lazy_counter, with_pair
+from perfectorders.leads import (is_lead, lead_count, leads_of, may_turn, order_of_lead, other_way, right_lead_count,
+                                 right_leads, turn_breaks, turned_clash)
 from perfectorders.lots import common_thing, first_rooms_out, left_out, missed_knots, missed_part
 from perfectorders.makers import doubled, mixed_rows
+from perfectorders.mending import least_mendings, meets_all_bad, mended, mending_price
 from perfectorders.notes import Notes
 from perfectorders.orders import Order, joined_order, order_by, product_order, put_in_order, same_lead
+from perfectorders.peeling import is_takes_order, peel_takes, peeled
+from perfectorders.places import Stretch, may_be_first, may_be_last, moves_of, new_bad, places_for, put_first
 from perfectorders.products import joint_count, joint_room
 from perfectorders.quads import contrary_row, ends_of, is_row, middles_of, rows_of_four, threes
 from perfectorders.raises import (contrary_ways, cost, dearer_needs, dearer_now, even_way, free_together, lot_cost,
                                   need_line, pair_room, raised, raised_heaviest, slack)
 from perfectorders.right import bad_rows, check_right, counter_needs, counter_pair, counter_part, first_bad, is_right
+from perfectorders.rings import blocking_ring, contrary_ring, odd_ring, ring_bad_row, ring_orders, ring_row
+from perfectorders.rules import Rules, unsafe_order, unsafe_row, unsafe_three, unsafe_twofold
 from perfectorders.settled import (booking_with, check_booking, order_of_booking, room_ends, rooms_row,
                                    settled_bookings, unsettled)
 from perfectorders.startkinds import all_starts_order, barring_four, early_end, pieces, start_run, starts_for
@@ -37,6 +45,8 @@ from perfectorders.starts import (StartBook, bad_threes, check_starts, floor, fl
                                   starts_fit)
 from perfectorders.strangers import (free_of, held_by, high_things, met_by, outside_bad, with_stranger,
                                      worst_strangers)
+from perfectorders.taking import (Taking, core, core_paper, is_core_like, no_ends, no_middles, order_by_core,
+                                  takes_order)
 from perfectorders.texts import web_from, web_text
 from perfectorders.threekinds import (between, is_gathered, is_middles_first, is_passing, middle_last, numbers_for,
                                       put_in_kinds, three_needs)
@@ -162,6 +172,59 @@ CALLS.update({
     "right_order_count": (right_order_count, LINE),
 })
 
+RING = Web.ring(5)
+RULES = Rules(4, [(1, 3), (2, 0)])
+
+
+def stretch_told(others, letters):
+    """All that a Stretch tells."""
+    stretch = Stretch(LINE, others, 0, letters)
+    return (stretch.web, stretch.others, stretch.thing, stretch.letters, stretch.floors, stretch.roofs, stretch.first,
+            stretch.last, stretch.is_none, stretch.place_list(), stretch.has(1), stretch.order_at(1), len(stretch))
+
+
+def taken(*takes):
+    """All that a Taking tells after some takes."""
+    taking = Taking(LINE)
+    got = tuple(taking.take(*take) for take in takes)
+    return (got, taking.things_left, taking.takes_row, taking.front, taking.back, taking.web, taking.take_all())
+
+
+def rules_told(many, pairs, more):
+    """All that Rules tell."""
+    rules = Rules(many, pairs)
+    return (rules.many, rules.pairs, rules.precedes(0, 1), rules.least_row(), rules.least_row_with(more),
+            tuple(rules.all_rows()), rules.keeps_order([1, 0, 2]), (rules + more[0]).pairs)
+
+
+CALLS.update({
+    "ring_row": (ring_row, RING, [4, 3, 2, 1, 0]), "odd_ring": (odd_ring, RING), "contrary_ring": (contrary_ring, ~RING),
+    "blocking_ring": (blocking_ring, RING), "ring_orders": (ring_orders, 8),
+    "ring_bad_row": (ring_bad_row, Order.plain(RING), [4, 3, 2, 1, 0]), "lead_count": (lead_count, WEB, [4, 2, 1]),
+    "leads_of": (lambda: tuple(leads_of(LINE)),), "right_leads": (lambda: tuple(right_leads(LINE)),),
+    "is_lead": (is_lead, LINE, [[1, 0], [1, 2], [3, 2]]), "order_of_lead": (order_of_lead, LINE, [[1, 0], [1, 2], [3, 2]]),
+    "right_lead_count": (right_lead_count, WEB), "other_way": (other_way, Order.plain(Web.full(4)), 0, 3),
+    "may_turn": (may_turn, RIGHT, 0, 1), "turned_clash": (turned_clash, RIGHT, 1, 2),
+    "turn_breaks": (turn_breaks, RIGHT, 0, 1), "line_right_leads": (line_right_leads, 9), "mixings": (mixings, [2, 1, 3]),
+    "sides_count": (sides_count, [2, 5], [1, 2]), "both_led": (both_led, ORDER),
+    "representatives": (lambda webs: tuple(representatives(webs)), [LINE, Web(0), Web(2)]),
+    "put_in_bad": (put_in_bad, Web.line(1), [LINE], ORDER), "across": (put_in_bad, LINE, [Web(1)] * 4, ORDER),
+    "Stretch": (stretch_told, [3, 1, 2], "FD"), "put_first": (put_first, LINE, [3, 1, 2], 0),
+    "places_for": (lambda others: places_for(RING, others, 0).two_rows(), [1, 2, 3, 4]),
+    "moves_of": (lambda: moves_of(ORDER, 1).place_list(),), "may_be_first": (may_be_first, LINE, 0),
+    "may_be_last": (may_be_last, LINE, 0), "new_bad": (new_bad, LINE, [3, 1, 2], 0, 0),
+    "no_ends": (no_ends, LINE, [3, 1, 0]), "no_middles": (no_middles, LINE, [3, 2, 1, 0]),
+    "Taking": (taken, [1, "front"], [3]), "core": (core, RING), "is_core_like": (is_core_like, RING, [4, 2, 0, 1, 3]),
+    "core_paper": (core_paper, RING), "takes_order": (takes_order, Taking(LINE), [3, 1, 2, 0]),
+    "order_by_core": (order_by_core, LINE), "peeled": (peeled, RIGHT), "is_takes_order": (is_takes_order, RIGHT),
+    "peel_takes": (peel_takes, RIGHT), "meets_all_bad": (meets_all_bad, ORDER, [3, 1]),
+    "least_mendings": (least_mendings, ORDER), "mended": (mended, ORDER, [3, 1]),
+    "mending_price": (mending_price, ORDER, [3, 1], [1, 2, 3, 4]),
+    "Rules": (rules_told, 3, [[0, 1]], [[1, 2], [0, 2]]), "unsafe_row": (unsafe_row, LINE, Rules(4)),
+    "Rules.rows": (lambda rows: Rules.rows(4, rows).pairs, [[3, 1], [0, 2]]), "unsafe_order": (unsafe_order, LINE, Rules(4)),
+    "unsafe_three": (unsafe_three, LINE, RULES, "gathered"), "unsafe_twofold": (unsafe_twofold, LINE, Rules(4)),
+})
+
 
 def spoil(value):
     """Change all lists within the value."""
@@ -229,7 +292,8 @@ class Values(Case):
 
     def test_yielded_values(self):
         for results in (knots_of(WEB), lots_of(WEB), mixed_rows([[0], [1]]), settled_bookings(LINE), NOTES.worlds(),
-                        lazy_bookings(ORDER), right_orders(LINE)):
+                        lazy_bookings(ORDER), right_orders(LINE), leads_of(LINE), right_leads(LINE), RULES.all_rows(),
+                        representatives([LINE, Web(2)])):
             for result in results:
                 self.plain(result)
 
@@ -240,7 +304,9 @@ class Generators(Case):
                             (mixed_rows([], limit=0), BadNumber("limit")),
                             (settled_bookings(WEB, limit=True), BadNumber("limit")),
                             (NOTES.worlds(limit=0), BadNumber("limit")), (right_orders(Web(8)), TooMany(7)),
-                            (lazy_bookings(ORDER, limit=None), BadNumber("limit"))):
+                            (lazy_bookings(ORDER, limit=None), BadNumber("limit")),
+                            (leads_of(LINE, limit="1"), BadNumber("limit")), (RULES.all_rows(limit=0), BadNumber("limit")),
+                            (right_leads(LINE, limit=0), BadNumber("limit"))):
             self.assertIs(iter(told), told)
             self.raises(error, next, told)
 
@@ -250,12 +316,16 @@ class Errors(Case):
         web, order = Web.line(3), Order.plain(Web.line(3))
         book = Book(order, (1, 2, 3))
         foe = FoeBook(order, (0, 1, 1))
-        calls = ((foe.will, [0]), (foe.will, [1, 2]), (foe.will, [3]), (web.part, [0, 0]), (web.with_thing, [9]), (web.settled, 0, 0, True), (order.moved, 0, 9),
+        taking, rules = Taking(Web.line(4)), Rules(3, [(0, 1)])
+        calls = ((taking.take, 0, "front"), (taking.take, 0, 3), (taking.take, 9), (rules.__add__, (1, 0)),
+                 (foe.will, [0]), (foe.will, [1, 2]), (foe.will, [3]), (web.part, [0, 0]), (web.with_thing, [9]),
+                 (web.settled, 0, 0, True), (order.moved, 0, 9),
                  (order.on, Web(9)), (book.holds, [0], 0), (book.lot_at, 0))
         for call, *rest in calls:
             with self.assertRaises(OrdersError):
                 call(*rest)
         self.same((web, order.row, book.spans), (Web(3, [(0, 1), (1, 2)]), (0, 1, 2), Book(order, (1, 2, 3)).spans))
+        self.same((taking.things_left, taking.takes_row, rules.pairs), ((0, 1, 2, 3), (), ((0, 1),)))
         self.same((foe.now_left, foe.spans_so_far(), foe.will_many, foe.met_many), ((0, 1, 1), (), 0, 0))
 
 

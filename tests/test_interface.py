@@ -67,8 +67,26 @@ FUNCTIONS = {
                 "choice_ring(web, choice)", "order_of_choice(web, choice)", "choice_tree(web)",
                 "is_choice_tree(web, tree)", "has_right_order(web)", "right_order(web)", "right_orders(web)",
                 "right_order_count(web)"],
+    "rings": ["ring_row(web, part)", "odd_ring(web)", "contrary_ring(web)", "blocking_ring(web)",
+              "ring_bad_row(order, part)", "ring_orders(many)"],
+    "leads": ["lead_count(web, part=None)", "leads_of(web, *, limit=2000)", "right_leads(web, *, limit=2000)",
+              "is_lead(web, lead)", "order_of_lead(web, lead)", "right_lead_count(web)", "other_way(order, x, y)",
+              "may_turn(order, x, y)", "turned_clash(order, x, y)", "turn_breaks(order, x, y)"],
+    "counts": ["line_right_leads(many)", "mixings(sizes)", "sides_count(counts, sizes)", "both_led(order)",
+               "representatives(webs)", "put_in_bad(outer, webs, order)"],
+    "places": ["places_for(web, others, thing, letters='F')", "put_first(web, others, thing)",
+               "moves_of(order, thing, letters='F')", "may_be_first(web, thing)", "may_be_last(web, thing)",
+               "new_bad(web, others, thing, place)"],
+    "taking": ["no_ends(web, part=None)", "no_middles(web, part=None)", "core(web)", "is_core_like(web, things)",
+               "core_paper(web)", "takes_order(taking, middle=None)", "order_by_core(web)"],
+    "peeling": ["peeled(order)", "is_takes_order(order)", "peel_takes(order)"],
+    "mending": ["meets_all_bad(order, things)", "least_mendings(order)", "mended(order, things)",
+                "mending_price(order, things, needs=None)"],
+    "rules": ["unsafe_row(web, rules)", "unsafe_order(web, rules)", "unsafe_three(web, rules, kind)",
+              "unsafe_twofold(web, rules)"],
 }
-GENERATORS = ("knots_of", "lots_of", "mixed_rows", "settled_bookings", "worlds", "lazy_bookings", "right_orders")
+GENERATORS = ("knots_of", "lots_of", "mixed_rows", "settled_bookings", "worlds", "lazy_bookings", "right_orders",
+              "leads_of", "right_leads", "representatives", "all_rows")
 CLASSES = {
     "webs.Web": (["__init__(self, many, clashes=())", "clash(self, x, y)", "near(self, x)", "part(self, things)",
                   "without(self, x)", "with_thing(self, near)", "settled(self, x, y, clashing)"],
@@ -90,6 +108,14 @@ CLASSES = {
     "booked.AheadBook": (["__init__(self, order, rooms, needs=None)"], [], ["own_count"], []),
     "starts.StartBook": (["__init__(self, order, starts, needs=None)"], [], [], []),
     "twofold.Fourfold": (["__init__(self, order, needs=None)"], [], [], []),
+    "places.Stretch": (["__init__(self, web, others, thing, letters='F')", "has(self, place)", "place_list(self)",
+                        "order_at(self, place)", "two_rows(self)"], [], ["first", "last", "is_none"],
+                       ["__bool__", "__len__", "__slots__"]),
+    "taking.Taking": (["__init__(self, web)", "take(self, thing, side=None)", "take_all(self)"], [],
+                      ["things_left", "takes_row"], []),
+    "rules.Rules": (["__init__(self, many, pairs=())", "precedes(self, x, y)", "keeps_order(self, row)",
+                     "least_row(self)", "least_row_with(self, pairs)", "all_rows(self, *, limit=2000)"],
+                    ["rows(many, rows)"], [], ["__add__", "__eq__"]),
 }
 BENEATH = {"booked.AheadBook": "Book", "starts.StartBook": "Book"}
 STATIC = {"notes.Notes": ["just(needs)"]}

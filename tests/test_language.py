@@ -18,7 +18,8 @@ METHODS = set("append clear copy count endswith extend find get index insert isa
               "add discard".split())
 STATEMENTS = (ast.Assign, ast.If, ast.While, ast.For, ast.Return, ast.Break, ast.Continue, ast.Pass, ast.Raise,
               ast.Try, ast.Expr, ast.FunctionDef, ast.ClassDef, ast.ImportFrom)
-SIGNS = set("__init__ __eq__ __len__ __iter__ __invert__ __add__ __mul__ __contains__ __getitem__".split())
+SIGNS = set("__init__ __eq__ __len__ __iter__ __invert__ __add__ __mul__ __contains__ __getitem__ __bool__".split())
+LIBRARY = {"math": {"comb"}}
 BARRED = set("type typing enum Enum Flag Generic Protocol ABC namedtuple dataclass overload register mro elements open "
              "input law id dir vars help exit quit sys os eval exec compile globals locals".split())
 
@@ -66,6 +67,9 @@ class Language(unittest.TestCase):
                    for path, tree in TREES.items()}
         imported = {path.stem: set() for path in FILES}
         for name, node in nodes(ast.ImportFrom):
+            if node.module in LIBRARY:
+                self.assertLessEqual({alias.name for alias in node.names}, LIBRARY[node.module], name)
+                continue
             package, module = node.module.split(".")
             self.assertEqual((package, node.level), ("perfectorders", 0), name)
             imported[name.removesuffix(".py")].add(module)
