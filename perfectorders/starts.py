@@ -37,7 +37,7 @@ def best_level(web, starts, needs):
     """Return the pair (floor, the least level that gives it); some thing must be needy."""
     # From one level to the next the same things start above it, until the start of a needy thing
     # is reached: only the levels just below a start can give the floor.
-    levels = [starts[thing] - 1 for thing in needy_things(needs)]
+    levels = sorted(set([starts[thing] - 1 for thing in needy_things(needs)]))
     floors = [level + heaviest(web, needs_above(starts, needs, level)) for level in levels]
     greatest = max(floors)
     return (greatest, min([level for level, total in zip(levels, floors) if total == greatest]))

@@ -245,5 +245,39 @@ def part_web(web, things):
     return Web(len(things), [(number[x], number[y]) for x, y in web.clashes if x in number and y in number])
 
 
+def held_from(web, row, starts, needs):
+    """For each thing its rooms from its start on, room after room."""
+    held = {}
+    for thing in row:
+        rooms = []
+        room = starts[thing]
+        while len(rooms) < needs[thing]:
+            if not any(room in held.get(other, ()) for other in near(web, thing)):
+                rooms.append(room)
+            room += 1
+        held[thing] = rooms
+    return held
+
+
+def bad_threes_by_hand(order, starts):
+    place = {thing: at for at, thing in enumerate(order.row)}
+    return tuple(sorted((b, c, d) for b, c, d in threes_by_hand(order.web)
+                        if place[d] < place[c] and starts[b] > starts[c] and starts[b] > starts[d]))
+
+
+def level_weights(web, starts, needs):
+    """K_j for each level j, by going through all knots."""
+    most = max(starts[thing] for thing in needy(needs))
+    return [max(weight_of(needs, knot) for knot in
+                sets_of(web, [x for x in needy(needs) if starts[x] > level], is_knot))
+            for level in range(most)]
+
+
+def floor_by_hand(web, starts, needs):
+    if not any(needs):
+        return 0
+    return max(level + heavy for level, heavy in enumerate(level_weights(web, starts, needs)))
+
+
 # Things, places and numbers that are none: no integers, or the wrong ones.
 NO_INTEGERS = (True, False, None, "1", 1.0, (1,), [1])

@@ -7,6 +7,7 @@ import unittest
 from pathlib import Path
 
 from perfectorders.amounts import check_needs, check_things, weight
+from perfectorders.arrivals import Arrivals, window_for
 from perfectorders.booked import AheadBook
 from perfectorders.books import Book, alike_in_parts, book_by_rooms, first_lot, room_count, squeezed
 from perfectorders.bounds import heaviest_way, most_ahead
@@ -15,6 +16,7 @@ from perfectorders.choices import (check_choice, choice_of, choice_ring, choice_
 from perfectorders.climbs import climb, holding_knots, is_best, reaches, top_knot
 from perfectorders.counts import (both_led, line_right_leads, mixings, put_in_bad, representatives, sides_count)
 from perfectorders.covers import cover, cover_lot, cover_size, meeting_knot
+from perfectorders.desks import Desk
 from perfectorders.errors import BadNumber, BadPart, OrdersError, TooMany
 from perfectorders.foes import FoeBook
 from perfectorders.joins import beside, joined, made_one, number_of, product, put_in, thing_of
@@ -24,11 +26,14 @@ from perfectorders.knots import (full_knots, full_lots, heaviest, heaviest_knots
 from perfectorders.lazy import is_lazy, lazy_bookings, lazy_counter, with_pair
 from perfectorders.leads import (is_lead, lead_count, leads_of, may_turn, order_of_lead, other_way, right_lead_count,
                                  right_leads, turn_breaks, turned_clash)
+from perfectorders.listings import line_of, listing, row_text, span_table
 from perfectorders.lots import common_thing, first_rooms_out, left_out, missed_knots, missed_part
 from perfectorders.makers import doubled, mixed_rows
+from perfectorders.maybes import MaybeWeb, possible_rows
 from perfectorders.mending import least_mendings, meets_all_bad, mended, mending_price
 from perfectorders.notes import Notes
 from perfectorders.orders import Order, joined_order, order_by, product_order, put_in_order, same_lead
+from perfectorders.papers import Papers, safe_above, safe_below
 from perfectorders.peeling import is_takes_order, peel_takes, peeled
 from perfectorders.places import Stretch, may_be_first, may_be_last, moves_of, new_bad, places_for, put_first
 from perfectorders.products import joint_count, joint_room
@@ -50,8 +55,12 @@ from perfectorders.taking import (Taking, core, core_paper, is_core_like, no_end
 from perfectorders.texts import web_from, web_text
 from perfectorders.threekinds import (between, is_gathered, is_middles_first, is_passing, middle_last, numbers_for,
                                       put_in_kinds, three_needs)
+from perfectorders.trials import Trial, tried
 from perfectorders.together import bulge, common_best, gap_together, sum_needs
 from perfectorders.twofold import Fourfold, check_twofold, first_knot, is_twofold, shared_thing
+from perfectorders.unseen import Unseen
+from perfectorders.unseenends import (critical_in_all, critical_in_some, highest_rooms, lowest_rooms, slack_over,
+                                      world_with_rooms)
 from perfectorders.webs import Web
 from perfectorders.worlds import (can_be_critical, critical_paper, must_be_critical, room_ends_of, slack_ends,
                                   slack_worlds, world_of_slack, world_with)
@@ -225,6 +234,72 @@ CALLS.update({
     "unsafe_three": (unsafe_three, LINE, RULES, "gathered"), "unsafe_twofold": (unsafe_twofold, LINE, Rules(4)),
 })
 
+MAYBE = MaybeWeb(4, [(0, 1), (2, 3)], [(1, 2)])
+ARRIVALS = Arrivals(((0, 0), (1, 1), (2, 2), (1, 1)))
+UNSEEN = Unseen(MAYBE, ARRIVALS)
+NEEDY = Unseen(MAYBE, ARRIVALS, notes=Notes((1, 1, 1, 1), (1, 2, 1, 1)))
+
+
+def maybes_told(many, sure, maybe, clashing):
+    """All that a MaybeWeb tells."""
+    web = MaybeWeb(many, sure, maybe)
+    told = [web, web.settle_pair(1, 2, True), MaybeWeb.below(LINE), MaybeWeb.above(LINE)]
+    return (tuple((one.many, one.sure, one.maybe) for one in told), web.can_clash(0, 1), web.can_be_gap(0, 1),
+            web.lowest(), web.highest(), web(clashing), web.is_world(LINE), tuple(web.worlds()), possible_rows(web))
+
+
+def arrivals_told(spans, row, pairs, times):
+    """All that Arrivals tell."""
+    arrivals = Arrivals(spans)
+    return (arrivals.spans, arrivals.can_be_ahead(0, 1), arrivals.fits(row), arrivals.times_of(row),
+            arrivals.sure_rules(), arrivals.row_with(pairs), arrivals(times), window_for(LINE, arrivals, 0))
+
+
+def unseen_told(times):
+    """All that Unseen tells."""
+    late = Unseen(MAYBE, Arrivals([(0, 0)] + [(1, 2)] * 2 + [(9, 9)]), starts=Notes((1,) * 4, (3, 1, 1, 1)))
+    return (UNSEEN.possible_bad(), UNSEEN.possible_three(), UNSEEN.is_safe(), UNSEEN.counter_world(),
+            UNSEEN.order_in(MAYBE.lowest(), times), late.possible_three(), late.counter_starts(),
+            UNSEEN.notes.low, UNSEEN.start_notes.high)
+
+
+def papers_told(row, pairs):
+    """All that Papers tell."""
+    papers = Papers(row, MAYBE)
+    world = MAYBE([(1, 2)])
+    return (papers.row, papers.is_paper_right(world, pairs), papers.is_paper_wrong(world, pairs),
+            papers.least_right(world), papers.least_wrong(world), papers.least_right(MAYBE.lowest()))
+
+
+def desk_told(clashes, maybes, near, maybe, deeds):
+    """All that a Desk tells behind some deeds."""
+    desk = Desk(4, clashes=clashes, maybes=maybes)
+    news = (desk.come(near, maybe=maybe), desk.need(4, 3), desk.start(1, 2), desk.mark(0), desk.move(4, 0),
+            desk.settle(2, 3, True), desk.unmark(0), desk.undo(2), desk.go(2), desk.do("mark", [1]))
+    held = (desk.held.many, desk.held.sure, desk.held.maybe)
+    with Trial(desk) as trial:
+        ended = trial.ended
+        desk.mark(0)
+    return (news, held, desk.web_now, desk.order_now, desk.needs_now, desk.starts_now, desk.strangers_now,
+            desk.standing, desk.shown, desk.show(2), desk.twin().deeds(), desk.room_count_now(), desk.book(), desk.lot(),
+            desk.is_right_now(), desk.is_safe_now(), desk.price_now(), desk.core_now(), desk.places_now(near[1:], []),
+            desk.places_safe(near[1:]), desk.told(lot=1, slack_of=0, first=near[1:]), desk.deeds(), desk.news_of(0),
+            desk.same_as(desk.twin()), desk.ask("lot", 1), desk.what_if(deeds, "deeds"), tried(desk, deeds),
+            line_of(desk, 0), listing(desk), span_table(desk.book()), ended, trial.ended)
+
+
+CALLS.update({
+    "MaybeWeb": (maybes_told, 4, [[1, 0], [2, 3]], [[2, 1], [0, 3]], [[1, 2]]),
+    "Arrivals": (arrivals_told, [[0, 0], [1, 3], [2, 2], [1, 4]], [0, 1, 2, 3], [[1, 2]], [0, 3, 2, 2]),
+    "Unseen": (unseen_told, [0, 1, 2, 1]), "Papers": (papers_told, [0, 3, 1, 2], [[2, 1]]),
+    "safe_below": (safe_below, LINE, [0, 3, 1, 2]), "safe_above": (safe_above, LINE, [0, 3, 1, 2]),
+    "lowest_rooms": (lowest_rooms, NEEDY), "highest_rooms": (highest_rooms, NEEDY),
+    "world_with_rooms": (world_with_rooms, NEEDY, 3), "slack_over": (slack_over, NEEDY, 3),
+    "critical_in_some": (critical_in_some, NEEDY, 3), "critical_in_all": (critical_in_all, NEEDY, 3),
+    "Desk": (desk_told, [[1, 0], [1, 2]], [[3, 2]], [2, 1], [3], [["mark", [0]], ["come", [[0], 1, [1]]], ["undo", []]]),
+    "row_text": (row_text, [3, 1, 2]),
+})
+
 
 def spoil(value):
     """Change all lists within the value."""
@@ -248,9 +323,10 @@ class Values(Case):
             self.assertIs(type(value), tuple)
             for part in value:
                 self.plain(part)
-        elif isinstance(value, (Web, Order, Book)):
+        elif isinstance(value, (Web, Order, Book, Rules)):
             book = ("order", "needs", "spans", "room_count")
             for name in {Web: ("many", "clashes", "many_clashes"), Order: ("web", "row", "LETTERS"), Book: book,
+                         Rules: ("many", "pairs"),
                          AheadBook: (*book, "rooms_ahead", "ahead_things", "own_count"),
                          StartBook: (*book, "starts")}[type(value)]:
                 self.plain(getattr(value, name))
@@ -293,7 +369,7 @@ class Values(Case):
     def test_yielded_values(self):
         for results in (knots_of(WEB), lots_of(WEB), mixed_rows([[0], [1]]), settled_bookings(LINE), NOTES.worlds(),
                         lazy_bookings(ORDER), right_orders(LINE), leads_of(LINE), right_leads(LINE), RULES.all_rows(),
-                        representatives([LINE, Web(2)])):
+                        representatives([LINE, Web(2)]), MAYBE.worlds()):
             for result in results:
                 self.plain(result)
 
@@ -306,7 +382,7 @@ class Generators(Case):
                             (NOTES.worlds(limit=0), BadNumber("limit")), (right_orders(Web(8)), TooMany(7)),
                             (lazy_bookings(ORDER, limit=None), BadNumber("limit")),
                             (leads_of(LINE, limit="1"), BadNumber("limit")), (RULES.all_rows(limit=0), BadNumber("limit")),
-                            (right_leads(LINE, limit=0), BadNumber("limit"))):
+                            (right_leads(LINE, limit=0), BadNumber("limit")), (MAYBE.worlds(limit=0), BadNumber("limit"))):
             self.assertIs(iter(told), told)
             self.raises(error, next, told)
 
@@ -357,6 +433,19 @@ class Sizes(Case):
         # The last thing takes the rooms 3 to MOST - 6, and 8 more behind those of thing 2.
         self.same((book.room_count, book.last_of(2), held_by(book, (1,))), (2 * MOST + 2, 2 * MOST - 6, 7))
         self.same(floor(LINE, starts, book.needs), 2 * MOST + 2)
+
+    def test_great_numbers_of_unseen_things_and_desks(self):
+        notes = Notes((1,) * 4, (MOST,) * 4)
+        unseen = Unseen(MAYBE, ARRIVALS, notes=notes, starts=notes)
+        self.same((lowest_rooms(unseen), highest_rooms(unseen)), (2, 3 * MOST - 1))
+        web, needs, starts = world_with_rooms(unseen, 3 * MOST - 1)
+        self.same((web, needs, starts), (LINE, (MOST, MOST, 1, 1), (MOST,) * 4))
+        self.same(slack_over(Unseen(MAYBE, ARRIVALS, notes=notes), 0), (0, 2 * MOST - 2))
+        desk = Desk(2, clashes=[(0, 1)])
+        self.same((desk.start(0, MOST), desk.need(0, MOST), desk.need(1, MOST), desk.lot(10 ** 14)),
+                  ((f"rooms {MOST}",), (f"rooms {2 * MOST - 1}",), (f"rooms {2 * MOST}",), ()))
+        first = f"1-{MOST - 1}".rjust(27)
+        self.same(span_table(desk.book()), (f"{first}: 1", f"{MOST}-{2 * MOST - 1}: 0", f"{2 * MOST}-{2 * MOST}: 1"))
 
     def test_great_rooms(self):
         self.same(unsettled(LINE, (10 ** 14, 10 ** 14 - 1, 10 ** 14, 1)), (0, 1))

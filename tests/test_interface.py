@@ -4,6 +4,23 @@ import importlib
 import inspect
 import unittest
 
+from perfectorders.arrivals import Arrivals
+from perfectorders.booked import AheadBook
+from perfectorders.books import Book
+from perfectorders.desks import Desk
+from perfectorders.foes import FoeBook
+from perfectorders.maybes import MaybeWeb
+from perfectorders.notes import Notes
+from perfectorders.orders import Order
+from perfectorders.papers import Papers
+from perfectorders.places import Stretch
+from perfectorders.rules import Rules
+from perfectorders.starts import StartBook
+from perfectorders.taking import Taking
+from perfectorders.trials import Trial
+from perfectorders.twofold import Fourfold
+from perfectorders.unseen import Unseen
+from perfectorders.webs import Web
 from tests.by_hand import Case
 
 FUNCTIONS = {
@@ -84,6 +101,15 @@ FUNCTIONS = {
                 "mending_price(order, things, needs=None)"],
     "rules": ["unsafe_row(web, rules)", "unsafe_order(web, rules)", "unsafe_three(web, rules, kind)",
               "unsafe_twofold(web, rules)"],
+    "arrivals": ["window_for(web, arrivals, thing)"],
+    "maybes": ["possible_rows(maybe_web)"],
+    "unseen": [],
+    "unseenends": ["lowest_rooms(unseen)", "highest_rooms(unseen)", "world_with_rooms(unseen, goal)",
+                   "slack_over(unseen, thing)", "critical_in_some(unseen, thing)", "critical_in_all(unseen, thing)"],
+    "papers": ["safe_below(web, row)", "safe_above(web, row)"],
+    "desks": [],
+    "trials": ["tried(desk, deeds)"],
+    "listings": ["line_of(desk, thing)", "listing(desk)", "span_table(book)", "row_text(row)"],
 }
 GENERATORS = ("knots_of", "lots_of", "mixed_rows", "settled_bookings", "worlds", "lazy_bookings", "right_orders",
               "leads_of", "right_leads", "representatives", "all_rows")
@@ -116,6 +142,29 @@ CLASSES = {
     "rules.Rules": (["__init__(self, many, pairs=())", "precedes(self, x, y)", "keeps_order(self, row)",
                      "least_row(self)", "least_row_with(self, pairs)", "all_rows(self, *, limit=2000)"],
                     ["rows(many, rows)"], [], ["__add__", "__eq__"]),
+    "arrivals.Arrivals": (["__init__(self, spans)", "can_be_ahead(self, x, y)", "fits(self, row)", "times_of(self, row)",
+                           "sure_rules(self)", "row_with(self, pairs)", "__call__(self, times)"], [], [], []),
+    "maybes.MaybeWeb": (["__init__(self, many, sure=(), maybe=())", "can_clash(self, x, y)", "can_be_gap(self, x, y)",
+                         "settle_pair(self, x, y, clashing)", "lowest(self)", "highest(self)",
+                         "__call__(self, clashing)", "is_world(self, web)", "worlds(self, *, limit=500)"],
+                        ["below(web)", "above(web)"], [], []),
+    "unseen.Unseen": (["__init__(self, maybe_web, arrivals, *, notes=None, starts=None)", "possible_bad(self)",
+                       "possible_three(self)", "is_safe(self)", "counter_world(self)", "counter_starts(self)",
+                       "order_in(self, web, times)"], [], [], []),
+    "papers.Papers": (["__init__(self, row, maybe_web)", "is_paper_right(self, web, pairs)",
+                       "is_paper_wrong(self, web, pairs)", "least_right(self, web)", "least_wrong(self, web)"],
+                      [], [], []),
+    "desks.Desk": (["__init__(self, many=0, *, clashes=(), maybes=(), shown=1)", "show(self, room)", "twin(self)",
+                    "come(self, near, place=None, *, maybe=(), need=1)", "go(self, thing)", "move(self, thing, place)",
+                    "need(self, thing, number)", "start(self, thing, number)", "settle(self, x, y, clashing)",
+                    "mark(self, thing)", "unmark(self, thing)", "undo(self, many=1)", "do(self, name, arguments)",
+                    "room_count_now(self)", "book(self)", "lot(self, room=None)", "is_right_now(self)",
+                    "is_safe_now(self)", "ends_now(self)", "price_now(self)", "core_now(self)",
+                    "places_now(self, near, maybe=())", "places_safe(self, near, maybe=())", "told(self, **more)",
+                    "deeds(self)", "news_of(self, number)", "same_as(self, other)", "ask(self, question, *rest)",
+                    "what_if(self, deeds, question, *rest)"], [],
+                   ["held", "web_now", "order_now", "needs_now", "starts_now", "strangers_now", "standing", "shown"], []),
+    "trials.Trial": (["__init__(self, desk)"], [], ["ended"], ["__enter__", "__exit__"]),
 }
 BENEATH = {"booked.AheadBook": "Book", "starts.StartBook": "Book"}
 STATIC = {"notes.Notes": ["just(needs)"]}
@@ -157,6 +206,22 @@ class Interface(Case):
                 self.assertEqual(name + str(inspect.signature(getattr(made, name))), text)
             for name, value in vars(made).items():
                 self.assertEqual(inspect.isgeneratorfunction(value), name in GENERATORS, name)
+
+    def test_attributes_are_set_at_once(self):
+        web, order = Web.line(4), Order.plain(Web.line(4))
+        maybe_web, arrivals = MaybeWeb.below(web), Arrivals([(0, 1)] * 4)
+        for made, names in ((web, "many clashes"), (order, "web row"), (Book(order), "order needs spans"),
+                            (Notes((0,), (1,)), "low high"), (FoeBook(order), "order needs"),
+                            (AheadBook(order, ((),) * 4), "order needs spans rooms_ahead ahead_things"),
+                            (StartBook(order, (1,) * 4), "order needs spans starts"),
+                            (Fourfold(order), "order needs rooms knot knots cover_spans lot_told"),
+                            (Stretch(web, (1, 2, 3), 0), "web others thing letters floors roofs"),
+                            (Taking(web), "web front back"), (Rules(4), "many pairs"), (arrivals, "spans"),
+                            (maybe_web, "many sure maybe"), (Unseen(maybe_web, arrivals), "maybe_web arrivals notes start_notes"),
+                            (Papers((0, 1, 2, 3), maybe_web), "row maybe_web"), (Trial(Desk()), "desk")):
+            for name in names.split():
+                self.assertTrue(hasattr(made, name), (made, name))
+                self.assertNotIn(name, vars(type(made)) if name not in getattr(made, "__slots__", ()) else ())
 
 
 if __name__ == "__main__":

@@ -11,14 +11,15 @@ FILES = sorted(PACKAGE.rglob("*.py"))
 TREES = {path: ast.parse(path.read_text()) for path in FILES}
 
 BUILTINS = set("len range enumerate zip min max sum abs sorted reversed int str bool list tuple dict set isinstance "
-               "repr any all divmod iter Exception NotImplemented property classmethod staticmethod".split())
+               "repr any all divmod iter type Exception NotImplemented property classmethod staticmethod".split())
 METHODS = set("append clear copy count endswith extend find get index insert isalnum isalpha isdigit islower isspace "
               "isupper items join keys ljust lower lstrip partition pop remove replace reverse rfind rjust rpartition "
               "rsplit rstrip setdefault split splitlines startswith strip update upper values zfill bit_length "
               "add discard".split())
 STATEMENTS = (ast.Assign, ast.If, ast.While, ast.For, ast.Return, ast.Break, ast.Continue, ast.Pass, ast.Raise,
-              ast.Try, ast.Expr, ast.FunctionDef, ast.ClassDef, ast.ImportFrom)
-SIGNS = set("__init__ __eq__ __len__ __iter__ __invert__ __add__ __mul__ __contains__ __getitem__ __bool__".split())
+              ast.Try, ast.With, ast.Expr, ast.FunctionDef, ast.ClassDef, ast.ImportFrom)
+SIGNS = set("__init__ __eq__ __len__ __iter__ __invert__ __add__ __mul__ __contains__ __getitem__ __bool__ __call__ "
+            "__enter__ __exit__".split())
 LIBRARY = {"math": {"comb"}}
 BARRED = set("type typing enum Enum Flag Generic Protocol ABC namedtuple dataclass overload register mro elements open "
              "input law id dir vars help exit quit sys os eval exec compile globals locals".split())
@@ -29,6 +30,15 @@ def nodes(kind):
         for node in ast.walk(tree):
             if isinstance(node, kind):
                 yield path.name, node
+
+
+def is_plain(value):
+    """A literal: a constant, a tuple of literals, or a dict of literals that holds no dict."""
+    if isinstance(value, ast.Tuple):
+        return all(is_plain(part) and not isinstance(part, ast.Dict) for part in value.elts)
+    if isinstance(value, ast.Dict):
+        return all(is_plain(part) and not isinstance(part, ast.Dict) for part in [*value.keys, *value.values])
+    return isinstance(value, ast.Constant)
 
 
 class Language(unittest.TestCase):
@@ -58,7 +68,7 @@ class Language(unittest.TestCase):
         for path, tree in TREES.items():
             for node in tree.body:
                 docstring = isinstance(node, ast.Expr) and isinstance(node.value, ast.Constant)
-                plain = isinstance(node, ast.Assign) and isinstance(node.value, ast.Constant)
+                plain = isinstance(node, ast.Assign) and is_plain(node.value)
                 code = isinstance(node, (ast.ImportFrom, ast.FunctionDef, ast.ClassDef))
                 self.assertTrue(docstring or plain or code, path)
 
@@ -155,11 +165,16 @@ class Language(unittest.TestCase):
         read = {node.attr for _, node in nodes(ast.Attribute) if isinstance(node.ctx, ast.Load)}
         class_values = {target.id for _, made in nodes(ast.ClassDef) for node in made.body
                         if isinstance(node, ast.Assign) for target in node.targets}
-        self.assertEqual(read - methods - attributes - METHODS - class_values, set())
+        # A property's setter, and the name of an error's class in trials.py.
+        self.assertEqual(read - methods - attributes - METHODS - class_values, {"setter", "__name__"})
         generators = [node.name for node in functions
                       if any(isinstance(inner, (ast.Yield, ast.YieldFrom)) for inner in ast.walk(node))]
         for name in generators:
-            self.assertEqual([node.name for node in functions].count(name), 1, name)
+            # The document gives Notes and MaybeWeb a generator each of the name `worlds`.
+            many = 2 if name == "worlds" else 1
+            self.assertEqual([node.name for node in functions].count(name), many, name)
+            self.assertEqual(generators.count(name), many, name)
+            self.assertNotIn(name, METHODS)
 
     def test_local_names_are_no_names_of_the_file(self):
         for path, tree in TREES.items():
@@ -181,9 +196,49 @@ class Language(unittest.TestCase):
     def test_decorators_and_classes(self):
         for name, node in nodes((ast.FunctionDef, ast.ClassDef)):
             told = [ast.unparse(decorator) for decorator in node.decorator_list]
-            self.assertIn(told, ([], ["property"], ["classmethod"], ["staticmethod"]), (name, node.name))
+            setter = [f"{node.name}.setter"]
+            self.assertIn(told, ([], ["property"], ["classmethod"], ["staticmethod"], setter), (name, node.name))
+            if told == setter:
+                self.assertEqual([argument.arg for argument in node.args.args], ["self", "value"])
             if node.name.startswith("__"):
                 self.assertIn(node.name, SIGNS, name)
+
+    def test_slots(self):
+        taken = {node.name for _, made in nodes(ast.ClassDef) for node in made.body if isinstance(node, ast.FunctionDef)}
+        found = [node.value for _, made in nodes(ast.ClassDef) for node in made.body
+                 if isinstance(node, ast.Assign) and node.targets[0].id == "__slots__"]
+        self.assertEqual(len(found), 1)
+        slots = [part.value for part in found[0].elts]
+        self.assertEqual((set(slots) & (taken | METHODS), len(set(slots))), (set(), len(slots)))
+        self.assertEqual([name for name, node in nodes(ast.ClassDef) if len(node.bases) > 1], [])
+
+    def test_blocks(self):
+        """What stands in `__exit__` and in the method that it calls: assignments of names and attributes alone."""
+        for name, node in nodes(ast.With):
+            self.assertEqual([ast.unparse(item) for item in node.items], ["Trial(desk)"], name)
+        for name, made in nodes(ast.ClassDef):
+            methods = {node.name: node for node in made.body if isinstance(node, ast.FunctionDef)}
+            for label in {"__exit__", "leave"} & set(methods):
+                for row in methods[label].body:
+                    call = ast.unparse(row) == "self.leave()"
+                    self.assertTrue(call or isinstance(row, ast.Assign), (name, row.lineno))
+                    if not call:
+                        self.assertIsInstance(row.value, ast.Attribute)
+                        self.assertIsInstance(row.value.value, ast.Name)
+
+    def test_properties_assign_nothing(self):
+        for name, node in nodes(ast.FunctionDef):
+            if "property" in [ast.unparse(decorator) for decorator in node.decorator_list]:
+                for inner in ast.walk(node):
+                    self.assertNotIsInstance(inner, (ast.Assign, ast.AugAssign), (name, node.name))
+
+    def test_kinds_are_asked_for_their_names_alone(self):
+        for path, tree in TREES.items():
+            parents = {child: node for node in ast.walk(tree) for child in ast.iter_child_nodes(node)}
+            for node in ast.walk(tree):
+                if isinstance(node, ast.Name) and node.id == "type":
+                    above = parents[parents[node]]
+                    self.assertTrue(isinstance(above, ast.Attribute) and above.attr == "__name__", path.name)
 
     def test_raise_creates_its_error(self):
         for name, node in nodes(ast.Raise):

@@ -11,48 +11,14 @@ from perfectorders.starts import (StartBook, bad_threes, check_starts, floor, fl
 from perfectorders.strangers import free_of, held_by
 from perfectorders.webs import Web
 from tests import by_hand
-from tests.by_hand import (Case, NO_INTEGERS, all_needs, all_orders, all_webs, bad_by_hand, clash, full_sets,
-                           heaviest_weight, near, needy, sets_of, some_webs, spans_of_rooms, subsets, threes_by_hand,
-                           weight_of)
+from tests.by_hand import (Case, NO_INTEGERS, all_needs, all_orders, all_webs, bad_by_hand, bad_threes_by_hand, clash,
+                           floor_by_hand, full_sets, heaviest_weight, held_from, level_weights, needy, sets_of,
+                           some_webs, spans_of_rooms, subsets, weight_of)
 
 LINE = Web.line(4)
 PLAIN = Order.plain(LINE)
 WRONG = Order(LINE, (0, 3, 1, 2))
 MOST = 10 ** 12
-
-
-def held_from(web, row, starts, needs):
-    """For each thing its rooms from its start on, room after room."""
-    held = {}
-    for thing in row:
-        rooms = []
-        room = starts[thing]
-        while len(rooms) < needs[thing]:
-            if not any(room in held.get(other, ()) for other in near(web, thing)):
-                rooms.append(room)
-            room += 1
-        held[thing] = rooms
-    return held
-
-
-def bad_threes_by_hand(order, starts):
-    place = {thing: at for at, thing in enumerate(order.row)}
-    return tuple(sorted((b, c, d) for b, c, d in threes_by_hand(order.web)
-                        if place[d] < place[c] and starts[b] > starts[c] and starts[b] > starts[d]))
-
-
-def level_weights(web, starts, needs):
-    """K_j for each level j, by going through all knots."""
-    most = max(starts[thing] for thing in needy(needs))
-    return [max(weight_of(needs, knot) for knot in
-                sets_of(web, [x for x in needy(needs) if starts[x] > level], by_hand.is_knot))
-            for level in range(most)]
-
-
-def floor_by_hand(web, starts, needs):
-    if not any(needs):
-        return 0
-    return max(level + heavy for level, heavy in enumerate(level_weights(web, starts, needs)))
 
 
 def start_rows(many, most=3):
