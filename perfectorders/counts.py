@@ -87,8 +87,8 @@ def across_bad(outer, webs, rows):
     for chosen in representatives(webs):
         number = {v: firsts[v] + thing for v, thing in chosen}
         for a, b, c, d in rows_of_four(outer):
-            things = tuple([number.get(v) for v in (a, b, c, d)])
-            if things in rows or things[::-1] in rows:
+            # The numbers of the things rise with those of their webs, so that a bad row is read from the same end.
+            if tuple([number.get(v) for v in (a, b, c, d)]) in rows:
                 return ("across", chosen, (a, b, c, d))
     return None
 

@@ -16,16 +16,16 @@ def both_ways(rows):
 def asked_behind(rows, ahead, lot, rest):
     """Return what must be ahead of each thing of the rest when the lot is laid ahead of it, None if a row is bad.
 
-    `ahead` has for each thing the mask of the things that must be ahead of it.
+    `rows` are those within both; `ahead` has for each thing the mask of the things that must be ahead of it.
     """
     found = list(ahead)
-    for a, b, c, d in rows:
-        # With a ahead of b the thing c must be ahead of d; if c is in the lot, it is.
-        if (lot >> a) & 1 and (rest >> b) & 1 and (rest >> c) & 1:
+    for a, _, c, d in rows:
+        # As a is ahead of b, c must be ahead of d; if c is in the lot, it is.
+        if (lot >> a) & 1:
             if (lot >> d) & 1:
                 return None
             found[d] = found[d] | (1 << c)
-    return tuple([mask & rest if (rest >> thing) & 1 else 0 for thing, mask in enumerate(found)])
+    return tuple([mask & rest for mask in found])
 
 
 def sign_of(lot):

@@ -32,7 +32,7 @@ def ring_row(web, part):
 
 
 def rings_from(web, first):
-    """Return the rings of four or more things of which this is the least one, each as its row, a list."""
+    """Return the rings of which this is the least thing, each as its row, a list."""
     masks = web.masks
     above = whole_mask(web.many) & ~whole_mask(first + 1)
     found = []
@@ -44,7 +44,7 @@ def rings_from(web, first):
             longer = (*row, thing)
             if not (masks[first] >> thing) & 1:
                 waiting.append((longer, fitting & ~masks[row[-1]]))
-            elif len(longer) > 3 and row[1] < thing:
+            elif row[1] < thing:
                 found.append(longer)
     return found
 

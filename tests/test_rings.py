@@ -140,6 +140,12 @@ class BadRowsOfRings(Case):
                 needs = ones_on(web.many, things)
                 self.assertGreater(count_by_hand(web, order.row, needs), heaviest_weight(web, needs))
 
+    def test_nine_things(self):
+        for web, many in ((Web.ring(9), 9), (~Web.ring(9), 9), (~Web.ring(8) + Web(1), 8)):
+            order = Order(web, (8, 1, 3, 5, 7, 0, 2, 4, 6))
+            self.same(ring_bad_row(order, list(range(many))), bad_by_hand(web, order.row)[0])
+        self.raises(NoneSuch("ring"), ring_bad_row, Order.plain(Web.ring(8)), None)
+
     def test_seven_things(self):
         for web in (Web.ring(7), ~Web.ring(7)):
             for order in all_orders(web)[::397]:

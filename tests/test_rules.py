@@ -147,6 +147,9 @@ class TheRules(Case):
     def test_limit(self):
         rules = Rules(3, [(0, 1)])
         self.same(list(rules.all_rows(limit=3)), [(0, 1, 2), (0, 2, 1), (2, 0, 1)])
+        told = rules.all_rows(limit=1)
+        self.same(next(told), (0, 1, 2))
+        self.raises(TooMany(1), next, told)
         told = rules.all_rows(limit=2)
         self.same((next(told), next(told)), ((0, 1, 2), (0, 2, 1)))
         self.raises(TooMany(2), next, told)
