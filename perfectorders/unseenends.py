@@ -1,10 +1,10 @@
 """The least and the greatest rooms and slacks of unseen things over all worlds."""
 
-from perfectorders.amounts import check_number, check_thing, weight
+from perfectorders.amounts import check_number, check_thing, weight, with_entry
 from perfectorders.errors import NoneSuch
 from perfectorders.knots import full_knots, heaviest
 from perfectorders.maybes import world_of
-from perfectorders.starts import floor
+from perfectorders.starts import floor, needs_above
 from perfectorders.unseen import pairs_among
 from perfectorders.webs import all_pairs
 
@@ -19,37 +19,43 @@ def highest_rooms(unseen):
     return floor(unseen.maybe_web.highest(), unseen.start_notes.high, unseen.notes.high)
 
 
-def steps_of(notes):
-    """Return how many raises by 1 lead from the lows to the highs."""
-    return sum(notes.high) - sum(notes.low)
+def world_of_first(unseen, many):
+    """Return the world in which just the first maybes clash, so many."""
+    return world_of(unseen.maybe_web, unseen.maybe_web.maybe[:many])
 
 
-def raised_by(notes, steps):
-    """Return the world that is reached from the lows by so many raises by 1, those of the least thing first."""
-    left = steps
-    world = []
-    for low, high in zip(notes.low, notes.high):
-        world.append(min(high, low + left))
-        left = left - (world[-1] - low)
-    return tuple(world)
+def clashes_reaching(unseen, goal):
+    """Return the least number of first maybes with which the floor reaches the goal at the lows; all if it does not."""
+    least = 0
+    most = len(unseen.maybe_web.maybe)
+    while least < most:
+        middle = (least + most) // 2
+        if floor(world_of_first(unseen, middle), unseen.start_notes.low, unseen.notes.low) < goal:
+            least = middle + 1
+        else:
+            most = middle
+    return least
 
 
-def world_after(unseen, steps):
-    """Return the tuple (web, needs, starts) that so many steps lead to.
+def start_reaching(web, starts, needs, thing, goal):
+    """Return the least start of the thing with which the floor reaches the goal; with its own one it does not."""
+    # A later start lets the thing lie in knots above the levels from its own start on, which weigh
+    # the same from one start of another thing to the next.
+    levels = sorted(set([max(start, starts[thing]) for start in starts]))
+    for level, after in zip(levels, levels[1:]):
+        late = with_entry(starts, thing, level + 1)
+        reached = max(level, goal - heaviest(web, needs_above(late, needs, level), (thing,)))
+        if reached < after:
+            return reached + 1
+    # Above the last one the thing is alone.
+    return max(levels[-1], goal - needs[thing]) + 1
 
-    First the maybes come to clash, the least one first, then starts are raised, then needs.
-    """
-    pairs = unseen.maybe_web.maybe[:steps]
-    later = steps - len(pairs)
-    starts = raised_by(unseen.start_notes, later)
-    later = later - (sum(starts) - sum(unseen.start_notes.low))
-    return (world_of(unseen.maybe_web, pairs), raised_by(unseen.notes, later), starts)
 
-
-def floor_after(unseen, steps):
-    """Return the floor that so many steps lead to."""
-    web, needs, starts = world_after(unseen, steps)
-    return floor(web, starts, needs)
+def need_reaching(web, starts, needs, thing, goal):
+    """Return the least need of the thing with which the floor reaches the goal; with its own one it does not."""
+    # With a need t of at least the goal the floor is t and a number that does not depend on t.
+    more = floor(web, starts, with_entry(needs, thing, goal)) - goal
+    return goal - more
 
 
 def world_with_rooms(unseen, goal):
@@ -59,17 +65,18 @@ def world_with_rooms(unseen, goal):
         raise NoneSuch("lows")
     if not lowest_rooms(unseen) <= goal <= highest_rooms(unseen):
         raise NoneSuch("goal")
-    # The floor never falls and rises by at most 1 with each step, so the first step that reaches
-    # the goal is found by halving, and not step by step.
-    least = 0
-    most = len(unseen.maybe_web.maybe) + steps_of(unseen.start_notes) + steps_of(unseen.notes)
-    while least < most:
-        middle = (least + most) // 2
-        if floor_after(unseen, middle) < goal:
-            least = middle + 1
-        else:
-            most = middle
-    return world_after(unseen, least)
+    web = world_of_first(unseen, clashes_reaching(unseen, goal))
+    starts = unseen.start_notes.low
+    needs = unseen.notes.low
+    # The floor never falls and rises by at most 1 with each step, so it is told at which step of a
+    # thing the goal is reached, without going step by step.
+    for thing, high in enumerate(unseen.start_notes.high):
+        if floor(web, starts, needs) < goal:
+            starts = with_entry(starts, thing, min(high, start_reaching(web, starts, needs, thing, goal)))
+    for thing, high in enumerate(unseen.notes.high):
+        if floor(web, starts, needs) < goal:
+            needs = with_entry(needs, thing, min(high, need_reaching(web, starts, needs, thing, goal)))
+    return (web, needs, starts)
 
 
 def world_on(unseen, things):

@@ -42,6 +42,19 @@ def cases(**more):
             yield some_unseen(many, number, **more)
 
 
+def wide_unseen(number):
+    """Things whose starts and needs lie between wide limits."""
+    chance = Random(number)
+    many = chance.randrange(1, 6)
+    kinds = {pair: chance.choice("gccm") for pair in pairs_of(range(many))}
+    sure = [pair for pair, kind in kinds.items() if kind == "c"]
+    maybe = [pair for pair, kind in kinds.items() if kind == "m"]
+    first = [chance.randrange(1, 9) for _ in range(many)]
+    return Unseen(MaybeWeb(many, sure, maybe), anywhen(many),
+                  notes=Notes((1,) * many, [1 + chance.randrange(5) for _ in range(many)]),
+                  starts=Notes(first, [start + chance.randrange(9) for start in first]))
+
+
 def worlds_of(unseen):
     maybe_web = unseen.maybe_web
     return [Web(maybe_web.many, maybe_web.sure + chosen) for chosen in subsets(maybe_web.maybe)]
@@ -104,7 +117,7 @@ class TwoWorlds(Case):
         self.assertGreater(tested, 20)
 
     def test_step_by_step(self):
-        for unseen in cases(low=1):
+        for unseen in [*cases(low=1), *[wide_unseen(number) for number in range(150)]]:
             way = steps_from_the_lows(unseen)
             floors = [floor_by_hand(web, starts, needs) for web, needs, starts in way]
             self.assertTrue(all(two - one in (0, 1) for one, two in zip(floors, floors[1:])))
